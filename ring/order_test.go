@@ -1,0 +1,413 @@
+package ring
+
+import (
+	"fmt"
+	"math/rand"
+	"slices"
+	"testing"
+
+	"troupe/api"
+	"troupe/cells"
+)
+
+// plain is an operation as the chapter's words have it: which access is its next one, by the chapter's numbers.
+type plain struct {
+	kind                   int // a place in kinds
+	c                      uint64
+	access                 int
+	t, h, v                uint64
+	outcome, value, ticket uint64
+}
+
+const (
+	put = iota
+	take
+	drain
+	look
+	closing
+	kinds
+)
+
+func (p *plain) step(mem []uint64) {
+	if p.outcome != api.Pending {
+		return
+	}
+	p.access++
+	switch p.kind {
+	case put:
+		p.put(mem, 2+2*(p.t%p.c), p.t/p.c)
+	case take:
+		p.take(mem, p.access, 2+2*(p.h%p.c), p.h/p.c)
+	case drain:
+		p.drain(mem)
+	case look:
+		if p.take(mem, p.access, 2+2*(p.h%p.c), p.h/p.c); p.access == 2 && p.outcome == api.Pending {
+			p.outcome = api.Done
+		}
+	case closing:
+		p.close(mem)
+	}
+}
+
+func (p *plain) put(mem []uint64, slot, r uint64) {
+	switch p.access {
+	case 1:
+		if p.t = mem[0]; p.t >= edge {
+			p.outcome = api.Closed
+		}
+	case 2:
+		if s := mem[slot]; s > 2*r {
+			p.access = 0
+		} else if s < 2*r {
+			p.outcome = api.Full
+		}
+	case 3:
+		if mem[0] == p.t {
+			mem[0] = p.t + 1
+		} else {
+			p.access = 0
+		}
+	case 4:
+		mem[slot+1] = p.v
+	case 5:
+		mem[slot] = 2*r + 1
+		p.outcome, p.ticket = api.Done, p.t
+	}
+}
+
+func (p *plain) take(mem []uint64, access int, slot, r uint64) {
+	switch access {
+	case 1:
+		p.h = mem[1]
+	case 2:
+		if mem[slot] != 2*r+1 {
+			p.outcome = api.None
+		}
+	case 3:
+		p.v = mem[slot+1]
+	case 4:
+		mem[slot] = 2*r + 2
+	case 5:
+		mem[1] = p.h + 1
+		p.outcome, p.value = api.Done, p.v
+	}
+}
+
+func (p *plain) drain(mem []uint64) {
+	switch p.access {
+	case 1:
+		p.t = mem[0]
+	case 2:
+		if p.h = mem[1]; p.t == p.h+edge {
+			p.outcome = api.Ended
+		}
+	default:
+		p.take(mem, p.access-1, 2+2*(p.h%p.c), p.h/p.c)
+	}
+}
+
+func (p *plain) close(mem []uint64) {
+	switch p.access {
+	case 1:
+		if p.t = mem[0]; p.t >= edge {
+			p.outcome = api.Done
+		}
+	case 2:
+		if mem[0] == p.t {
+			mem[0] = p.t + edge
+			p.outcome = api.Done
+		} else {
+			p.access = 0
+		}
+	}
+}
+
+func begin(r *Ring, kind int, v uint64) *Op {
+	switch kind {
+	case put:
+		return r.Put(v)
+	case take:
+		return r.Take()
+	case drain:
+		return r.Drain()
+	case look:
+		return r.Look()
+	}
+	return r.Close()
+}
+
+// odd draws a number that stands near to one that matters: to what the cells hold, or to an end of the numbers.
+func odd(draw *rand.Rand, mem []uint64) uint64 {
+	near := uint64(draw.Intn(5)) - 2
+	switch draw.Intn(4) {
+	case 0:
+		return near
+	case 1:
+		return edge + near
+	case 2:
+		return 2*mem[draw.Intn(len(mem))] + near
+	}
+	return mem[draw.Intn(len(mem))] + near
+}
+
+// P3.2 to P3.5: operations of all kinds, mixed step by step, beside somebody who now and then changes a cell, or not; all that is told and all cells are held against the plain ones.
+func TestStepsAgainstPlainOnes(t *testing.T) {
+	for seed := range int64(400) {
+		draw := rand.New(rand.NewSource(seed))
+		slots, meddles := 1+draw.Intn(4), draw.Intn(3)
+		m, r := fresh(t, slots)
+		mem := make([]uint64, m.Len())
+		ops, plains := make([]*Op, 4), make([]*plain, 4)
+		for i := range 500 {
+			k := draw.Intn(4)
+			if ops[k] == nil || ops[k].Over() && draw.Intn(4) > 0 {
+				kind, v := draw.Intn(kinds), draw.Uint64()
+				if kind == closing && draw.Intn(3) > 0 {
+					kind = put
+				}
+				ops[k], plains[k] = begin(r, kind, v), &plain{kind: kind, c: uint64(slots), v: v}
+			}
+			if meddles > 0 && draw.Intn(3*meddles) == 0 {
+				cell, v := draw.Intn(m.Len()), odd(draw, mem)
+				m.Store(cell, v)
+				mem[cell] = v
+			}
+			o, p := ops[k], plains[k]
+			touched, was := m.Touched(), o.Over()
+			over := o.Step()
+			p.step(mem)
+			if accesses := m.Touched() - touched; accesses != 1 && !was || accesses != 0 && was {
+				t.Errorf("%d accesses", accesses)
+			}
+			if over != o.Over() {
+				t.Errorf("Step tells %t", over)
+			}
+			wantTold(t, "an operation", o, int(p.outcome), p.value, p.ticket)
+			wantCells(t, m, mem...)
+			if t.Failed() {
+				t.Fatalf("seed %d, step %d, %d slots, kind %d", seed, i, slots, p.kind)
+			}
+		}
+	}
+}
+
+// everyOrder plays once for each row of picks that there can be: pick(n) answers one of the numbers from 0 to n - 1.
+func everyOrder(play func(pick func(n int) int)) (plays int) {
+	var picks, of []int
+	for {
+		at := 0
+		of = of[:0]
+		play(func(n int) int {
+			if at == len(picks) {
+				picks = append(picks, 0)
+			}
+			of = append(of, n)
+			at++
+			return picks[at-1]
+		})
+		plays++
+		for len(picks) > 0 && picks[len(picks)-1] == of[len(picks)-1]-1 {
+			picks = picks[:len(picks)-1]
+		}
+		if len(picks) == 0 {
+			return plays
+		}
+		picks[len(picks)-1]++
+	}
+}
+
+// stage is a ring with threads, each of which does its operations one behind the other; v of a put is 100 times its thread and its place, from 1 on.
+type stage struct {
+	t       *testing.T
+	m       *cells.Mem
+	r       *Ring
+	slots   int
+	threads [][]int
+	at      []int // which operation of a thread is its next one, or under way
+	steps   []int // how many steps that one has done
+	under   []*Op
+	begun   int  // how many Puts and Closes were begun
+	closed  bool // a Close is over
+	late    []bool
+	came    map[uint64]uint64 // by tickets, what went in
+	taken   []uint64
+	freed   int // how many slots wait again
+	ended   bool
+}
+
+func newStage(t *testing.T, slots int, threads [][]int) *stage {
+	m := cells.New(Size(slots))
+	r, e := Make(m, 0, slots)
+	if e != api.OK {
+		t.Fatal(e)
+	}
+	n := len(threads)
+	s := &stage{t: t, m: m, r: r, slots: slots, threads: threads, at: make([]int, n), steps: make([]int, n), under: make([]*Op, n), late: make([]bool, n), came: map[uint64]uint64{}}
+	for _, ops := range threads {
+		for _, kind := range ops {
+			if kind == put || kind == closing {
+				s.begun++ // of all that ever begin, as the promise counts
+			}
+		}
+	}
+	return s
+}
+
+// play picks threads till all of them are through.
+func (s *stage) play(pick func(n int) int) {
+	var order []int
+	for {
+		var going []int
+		for k, ops := range s.threads {
+			if s.at[k] < len(ops) {
+				going = append(going, k)
+			}
+		}
+		if len(going) == 0 {
+			break
+		}
+		k := going[pick(len(going))]
+		order = append(order, k)
+		s.step(k)
+		s.stopIfFailed(order, len(order) > 2000)
+	}
+	s.empty()
+	s.stopIfFailed(order, false)
+}
+
+// stopIfFailed tells the first order that is wrong, and not those behind it too.
+func (s *stage) stopIfFailed(order []int, endless bool) {
+	if s.t.Failed() || endless {
+		s.t.Fatalf("%d slots, threads %v, order %v", s.slots, s.threads, order)
+	}
+}
+
+func (s *stage) step(k int) {
+	kind, v := s.threads[k][s.at[k]], uint64(100*k+s.at[k]+1)
+	if s.under[k] == nil {
+		s.under[k], s.steps[k], s.late[k] = begin(s.r, kind, v), 0, s.closed
+	}
+	o := s.under[k]
+	over := o.Step()
+	s.steps[k]++
+	if kind == take && s.steps[k] == 4 || kind == drain && s.steps[k] == 5 {
+		s.freed++
+	}
+	if in := int(s.m.Peek(0)&^edge) - s.freed; in > s.slots {
+		s.t.Errorf("%d are in the ring", in)
+	}
+	if kind == put && s.steps[k] > 3*s.begun+2 {
+		s.t.Errorf("a Put of %d steps, beside %d Puts and Closes in all", s.steps[k], s.begun)
+	}
+	if over {
+		s.over(k, kind, v, o)
+	}
+}
+
+func (s *stage) over(k, kind int, v uint64, o *Op) {
+	s.at[k]++
+	s.under[k] = nil
+	switch {
+	case kind == put && o.Outcome() == api.Done:
+		if _, twice := s.came[o.Ticket()]; twice || s.late[k] {
+			s.t.Errorf("ticket %d: drawn twice %t, begun behind a Close %t", o.Ticket(), twice, s.late[k])
+		}
+		s.came[o.Ticket()] = v
+	case kind == closing:
+		s.closed = true
+	case kind == take || kind == drain:
+		s.took(o)
+	}
+}
+
+func (s *stage) took(o *Op) {
+	if s.ended && o.Outcome() != api.Ended && o.Outcome() != api.None {
+		s.t.Errorf("%d of a ring that has ended", o.Outcome())
+	}
+	switch o.Outcome() {
+	case api.Done:
+		s.taken = append(s.taken, o.Value())
+	case api.Ended:
+		s.ended = true
+	}
+}
+
+// empty takes what is left, and holds what was taken against what went in; nobody else steps any more.
+func (s *stage) empty() {
+	last := api.None
+	if s.closed {
+		last = api.Ended
+	}
+	for range s.slots + 1 {
+		o := s.r.Drain()
+		run(s.t, o)
+		if o.Outcome() != api.Done {
+			if o.Outcome() != last {
+				s.t.Errorf("the last Drain: %d", o.Outcome())
+			}
+			break
+		}
+		s.taken = append(s.taken, o.Value())
+	}
+	if len(s.taken) != len(s.came) {
+		s.t.Errorf("taken: %v; put: %v", s.taken, s.came)
+	}
+	behind := map[uint64]uint64{}
+	for ticket, v := range s.taken {
+		if in, ok := s.came[uint64(ticket)]; !ok || in != v {
+			s.t.Errorf("taken: %v; put: %v", s.taken, s.came)
+		}
+		if v <= behind[v/100] {
+			s.t.Errorf("taken: %v, out of their putter's order", s.taken)
+		}
+		behind[v/100] = v
+	}
+}
+
+// P3.6: all orders of a few operations.
+func TestEveryOrder(t *testing.T) {
+	for _, c := range []struct {
+		slots, atLeast int
+		threads        [][]int
+	}{
+		{1, 50, [][]int{{closing}, {closing}, {put}}},
+		{1, 2000, [][]int{{put, put}, {take, take}}},
+		{1, 2000, [][]int{{put, put}, {look, take, look, take}}},
+		{1, 2000, [][]int{{put, closing, put}, {drain, drain, drain}}},
+		{1, 2000, [][]int{{put}, {put}, {closing}}},
+		{1, 10000, [][]int{{put}, {put}, {take}}},
+		{2, 2000, [][]int{{put, put}, {put}}},
+		{2, 50, [][]int{{put, put}, {closing}}},
+		{2, 10000, [][]int{{put}, {put}, {take}}},
+		{2, 5000, [][]int{{put, put, put}, {drain}}},
+		{2, 10000, [][]int{{put}, {take, drain}, {closing}}},
+	} {
+		t.Run(fmt.Sprint(c.slots, c.threads), func(t *testing.T) {
+			plays := everyOrder(func(pick func(int) int) { newStage(t, c.slots, c.threads).play(pick) })
+			if plays < c.atLeast {
+				t.Errorf("%d orders", plays)
+			}
+		})
+	}
+}
+
+// P3.6: some orders of many operations.
+func TestManyOrders(t *testing.T) {
+	for seed := range int64(3000) {
+		draw := rand.New(rand.NewSource(seed))
+		threads := make([][]int, 1+draw.Intn(6))
+		for k := range threads {
+			threads[k] = slices.Repeat([]int{put}, draw.Intn(7))
+			if draw.Intn(6) == 0 {
+				threads[k] = slices.Insert(threads[k], draw.Intn(len(threads[k])+1), closing)
+			}
+		}
+		var taker []int
+		for range draw.Intn(20) {
+			taker = append(taker, []int{take, take, drain, drain, look}[draw.Intn(5)])
+		}
+		threads = append(threads, taker)
+		slots := []int{1, 2, 3, 5, 64}[draw.Intn(5)]
+		newStage(t, slots, threads).play(draw.Intn)
+	}
+}

@@ -1,0 +1,625 @@
+package ring
+
+import (
+	"math"
+	"slices"
+	"testing"
+
+	"troupe/api"
+	"troupe/cells"
+)
+
+const edge = uint64(1) << 63 // what a closed ring's tail has beside the ticket
+
+// fresh makes a ring in a memory that has no other cell.
+func fresh(t *testing.T, slots int) (*cells.Mem, *Ring) {
+	t.Helper()
+	m := cells.New(Size(slots))
+	return m, laid(t, m, 0, slots)
+}
+
+func laid(t *testing.T, m *cells.Mem, base, slots int) *Ring {
+	t.Helper()
+	r, e := Make(m, base, slots)
+	if r == nil || e != api.OK {
+		t.Fatalf("Make(%d cells, %d, %d) = %v, %d", m.Len(), base, slots, r, e)
+	}
+	return r
+}
+
+// holding makes a memory that holds these numbers, and the ring in it, which thus is as it never may have become.
+func holding(t *testing.T, held ...uint64) (*cells.Mem, *Ring) {
+	t.Helper()
+	m, r := fresh(t, len(held)/2-1)
+	for i, v := range held {
+		m.Store(i, v)
+	}
+	return m, r
+}
+
+// run steps o till it is over, and counts the steps.
+func run(t *testing.T, o *Op) int {
+	t.Helper()
+	for n := 1; n <= 1000; n++ {
+		if o.Step() {
+			return n
+		}
+	}
+	t.Fatal("an operation that nobody hinders doesn't end")
+	return 0
+}
+
+func wantTold(t *testing.T, name string, o *Op, outcome int, value, ticket uint64) {
+	t.Helper()
+	if o.Over() != (outcome != api.Pending) || o.Outcome() != outcome || o.Value() != value || o.Ticket() != ticket {
+		t.Errorf("%s: over %t, outcome %d, value %d, ticket %d, want outcome %d, value %d, ticket %d", name, o.Over(), o.Outcome(), o.Value(), o.Ticket(), outcome, value, ticket)
+	}
+}
+
+func wantPut(t *testing.T, r *Ring, v uint64, steps, outcome int, ticket uint64) {
+	t.Helper()
+	o := r.Put(v)
+	if n := run(t, o); n != steps {
+		t.Errorf("Put(%d): %d steps, want %d", v, n, steps)
+	}
+	wantTold(t, "Put", o, outcome, 0, ticket)
+}
+
+// wantRun is of operations that have no ticket.
+func wantRun(t *testing.T, name string, o *Op, steps, outcome int, value uint64) {
+	t.Helper()
+	if n := run(t, o); n != steps {
+		t.Errorf("%s: %d steps, want %d", name, n, steps)
+	}
+	wantTold(t, name, o, outcome, value, 0)
+}
+
+func wantCells(t *testing.T, m *cells.Mem, want ...uint64) {
+	t.Helper()
+	if got := m.All(); !slices.Equal(got, want) {
+		t.Errorf("the cells hold %v, want %v", got, want)
+	}
+}
+
+// wantSteps steps o, and holds all cells against what they shall hold behind each step: at the last one it is over.
+func wantSteps(t *testing.T, m *cells.Mem, o *Op, behind ...[]uint64) {
+	t.Helper()
+	for i, want := range behind {
+		touched := m.Touched()
+		if over := o.Step(); over != (i == len(behind)-1) || o.Over() != over {
+			t.Errorf("step %d of %d: over %t", i+1, len(behind), over)
+		}
+		if m.Touched() != touched+1 {
+			t.Errorf("step %d: %d accesses", i+1, m.Touched()-touched)
+		}
+		if got := m.All(); !slices.Equal(got, want) {
+			t.Errorf("behind step %d the cells hold %v, want %v", i+1, got, want)
+		}
+	}
+}
+
+func TestExamplesOfTheChapter(t *testing.T) {
+	m, r := fresh(t, 2)
+	wantCells(t, m, 0, 0, 0, 0, 0, 0)
+	wantPut(t, r, 7, 5, api.Done, 0)
+	wantPut(t, r, 8, 5, api.Done, 1)
+	wantPut(t, r, 9, 2, api.Full, 0)
+	wantRun(t, "Take", r.Take(), 5, api.Done, 7)
+	wantPut(t, r, 9, 5, api.Done, 2)
+	wantRun(t, "Close", r.Close(), 2, api.Done, 0)
+	wantPut(t, r, 1, 1, api.Closed, 0)
+	wantRun(t, "Drain", r.Drain(), 6, api.Done, 8)
+	wantRun(t, "Drain", r.Drain(), 6, api.Done, 9)
+	wantRun(t, "Drain", r.Drain(), 2, api.Ended, 0)
+}
+
+// P3.1
+func TestSize(t *testing.T) {
+	for slots := 1; slots <= api.MaxSlots; slots++ {
+		if got := Size(slots); got != 2+2*slots {
+			t.Errorf("Size(%d) = %d", slots, got)
+		}
+	}
+	for _, slots := range []int{0, -1, -2, math.MinInt, api.MaxSlots + 1, 1000, math.MaxInt/2 + 1, math.MaxInt} {
+		if got := Size(slots); got != 0 {
+			t.Errorf("Size(%d) = %d", slots, got)
+		}
+	}
+}
+
+// P3.1
+func TestMakeRefuses(t *testing.T) {
+	m := cells.New(200)
+	for i := range m.Len() {
+		m.Store(i, 5)
+	}
+	touched := m.Touched()
+	for _, c := range []struct {
+		m           *cells.Mem
+		base, slots int
+	}{
+		{nil, 0, 2}, {nil, -1, 0},
+		{m, 0, 0}, {m, 0, -1}, {m, 0, math.MinInt}, {m, 0, api.MaxSlots + 1}, {m, 0, math.MaxInt},
+		{m, -1, 2}, {m, -6, 2}, {m, math.MinInt, 2},
+		{m, 195, 2}, {m, 197, 1}, {m, 71, 64}, {m, 200, 1}, {m, math.MaxInt, 2}, {m, math.MaxInt - 4, 2}, {m, math.MaxInt - 5, 2},
+		{cells.New(0), 0, 1}, {cells.New(3), 0, 1}, {cells.New(129), 0, 64},
+	} {
+		if r, e := Make(c.m, c.base, c.slots); r != nil || e != api.ErrArg {
+			t.Errorf("Make(%v, %d, %d) = %v, %d", c.m != nil, c.base, c.slots, r, e)
+		}
+	}
+	if m.Touched() != touched || slices.Contains(m.All(), 0) {
+		t.Error("a Make that was refused has touched the memory")
+	}
+}
+
+// P3.1
+func TestMakeLaysOutItsCellsAlone(t *testing.T) {
+	for _, c := range []struct{ cells, base, slots int }{
+		{4, 0, 1}, {6, 0, 2}, {10, 6, 1}, {10, 4, 2}, {10, 3, 2}, {140, 10, 64}, {140, 5, 64}, {130, 0, 64},
+		{api.MaxCells, api.MaxCells - 130, 64}, {api.MaxCells, 0, 3},
+	} {
+		m := cells.New(c.cells)
+		want := make([]uint64, c.cells)
+		for i := range want {
+			m.Store(i, 5)
+			want[i] = 5
+		}
+		laid(t, m, c.base, c.slots)
+		clear(want[c.base : c.base+2+2*c.slots])
+		if !slices.Equal(m.All(), want) {
+			t.Errorf("behind Make at %d of %d slots the cells hold %v", c.base, c.slots, m.All())
+		}
+	}
+}
+
+// P3.1, P3.2, P3.3, P3.4: the cells of a ring that doesn't begin at 0.
+func TestRingBesideOthers(t *testing.T) {
+	m := cells.New(12)
+	for i := range m.Len() {
+		m.Store(i, 9)
+	}
+	r := laid(t, m, 3, 3)
+	wantPut(t, r, 70, 5, api.Done, 0)
+	wantPut(t, r, 71, 5, api.Done, 1)
+	wantPut(t, r, 72, 5, api.Done, 2)
+	wantCells(t, m, 9, 9, 9, 3, 0, 1, 70, 1, 71, 1, 72, 9)
+	wantRun(t, "Take", r.Take(), 5, api.Done, 70)
+	wantCells(t, m, 9, 9, 9, 3, 1, 2, 70, 1, 71, 1, 72, 9)
+	wantPut(t, r, 73, 5, api.Done, 3)
+	wantRun(t, "Close", r.Close(), 2, api.Done, 0)
+	wantCells(t, m, 9, 9, 9, edge+4, 1, 3, 73, 1, 71, 1, 72, 9)
+}
+
+// P3.1: what a ring is lies in its cells alone.
+func TestRingIsLaidOutAnew(t *testing.T) {
+	m, r := fresh(t, 2)
+	wantPut(t, r, 7, 5, api.Done, 0)
+	wantPut(t, r, 8, 5, api.Done, 1)
+	wantRun(t, "Take", r.Take(), 5, api.Done, 7)
+	wantRun(t, "Close", r.Close(), 2, api.Done, 0)
+	again := laid(t, m, 0, 2)
+	wantCells(t, m, 0, 0, 0, 0, 0, 0)
+	wantPut(t, again, 5, 5, api.Done, 0)
+	wantRun(t, "Take", r.Take(), 5, api.Done, 5)
+}
+
+// P3.2
+func TestPutStepByStep(t *testing.T) {
+	m, r := holding(t, 5, 3, 6, 70, 4, 71) // two slots; ticket 5 is of round 2, and its slot waits for it
+	o := r.Put(9)
+	wantSteps(t, m, o,
+		[]uint64{5, 3, 6, 70, 4, 71},
+		[]uint64{5, 3, 6, 70, 4, 71},
+		[]uint64{6, 3, 6, 70, 4, 71},
+		[]uint64{6, 3, 6, 70, 4, 9},
+		[]uint64{6, 3, 6, 70, 5, 9})
+	wantTold(t, "Put", o, api.Done, 0, 5)
+}
+
+// P3.2
+func TestPutIntoAClosedRing(t *testing.T) {
+	for _, tail := range []uint64{edge, edge + 1, edge + 77, math.MaxUint64} {
+		m, r := holding(t, tail, 0, 0, 0)
+		o := r.Put(9)
+		wantSteps(t, m, o, []uint64{tail, 0, 0, 0})
+		wantTold(t, "Put", o, api.Closed, 0, 0)
+	}
+}
+
+// P3.2
+func TestPutIntoAFullRing(t *testing.T) {
+	for _, c := range []struct{ tail, turn uint64 }{
+		{2, 0}, {2, 1}, {2, 3}, {1, 0}, {1, 1}, {edge - 1, 0}, {edge - 1, math.MaxUint64 - 2},
+	} {
+		held := []uint64{c.tail, 0, c.turn, 7}
+		m, r := holding(t, held...)
+		o := r.Put(9)
+		wantSteps(t, m, o, held, held)
+		wantTold(t, "Put", o, api.Full, 0, 0)
+	}
+}
+
+// P3.2: the turn is that of the ticket's slot.
+func TestPutLooksAtItsTicketsSlot(t *testing.T) {
+	for slot := range uint64(3) {
+		held := []uint64{3 + slot, 0, 1, 70, 1, 71, 1, 72}
+		_, r := holding(t, held...)
+		wantPut(t, r, 9, 2, api.Full, 0)
+		held[2+2*slot] = 2
+		m, r := holding(t, held...)
+		wantPut(t, r, 9, 5, api.Done, 3+slot)
+		held[0], held[2+2*slot], held[3+2*slot] = 4+slot, 3, 9
+		wantCells(t, m, held...)
+	}
+}
+
+// P3.2: a turn that is ahead sends it back, and so again and again.
+func TestPutGoesOnAtItsBeginningWhenTheTurnIsAhead(t *testing.T) {
+	m, r := holding(t, 4, 4, 9, 70) // one slot; ticket 4 waits at 8
+	o := r.Put(5)
+	for range 10 {
+		for range 2 {
+			touched := m.Touched()
+			if o.Step() || m.Touched() != touched+1 {
+				t.Fatal("a Put whose slot's turn is ahead has ended, or touched more than one cell")
+			}
+			wantCells(t, m, 4, 4, 9, 70)
+		}
+	}
+	m.Store(2, 10)
+	m.Store(0, 5) // its next step loads the tail anew
+	wantSteps(t, m, o,
+		[]uint64{5, 4, 10, 70},
+		[]uint64{5, 4, 10, 70},
+		[]uint64{6, 4, 10, 70},
+		[]uint64{6, 4, 10, 5},
+		[]uint64{6, 4, 11, 5})
+	wantTold(t, "Put", o, api.Done, 0, 5)
+}
+
+// P3.2: a tail that is another one by now sends it back.
+func TestPutGoesOnAtItsBeginningWhenTheTailIsAnotherOne(t *testing.T) {
+	_, r := fresh(t, 3)
+	late := r.Put(7)
+	late.Step()
+	late.Step()
+	wantPut(t, r, 8, 5, api.Done, 0)
+	if n := run(t, late); n != 6 {
+		t.Errorf("%d steps behind the second one", n)
+	}
+	wantTold(t, "Put", late, api.Done, 0, 1)
+
+	_, r = fresh(t, 1)
+	late = r.Put(7)
+	late.Step()
+	late.Step()
+	wantPut(t, r, 8, 5, api.Done, 0)
+	if n := run(t, late); n != 3 { // the Swap, the tail, the turn
+		t.Errorf("%d steps behind the second one", n)
+	}
+	wantTold(t, "Put", late, api.Full, 0, 0)
+
+	_, r = fresh(t, 1)
+	late = r.Put(7)
+	late.Step()
+	late.Step()
+	wantRun(t, "Close", r.Close(), 2, api.Done, 0)
+	if n := run(t, late); n != 2 { // the Swap, the tail
+		t.Errorf("%d steps behind the second one", n)
+	}
+	wantTold(t, "Put", late, api.Closed, 0, 0)
+}
+
+// P3.2: who has drawn its ticket goes in, even if the ring is closed then.
+func TestPutThatHasItsTicketGoesIn(t *testing.T) {
+	m, r := fresh(t, 1)
+	o := r.Put(7)
+	for range 3 {
+		o.Step()
+	}
+	wantRun(t, "Close", r.Close(), 2, api.Done, 0)
+	wantRun(t, "Drain", r.Drain(), 3, api.None, 0)
+	if n := run(t, o); n != 2 {
+		t.Errorf("%d steps behind the third one", n)
+	}
+	wantTold(t, "Put", o, api.Done, 0, 0)
+	wantCells(t, m, edge+1, 0, 1, 7)
+}
+
+// P3.2: the last ticket that there is.
+func TestPutOfTheGreatestTicket(t *testing.T) {
+	m, r := holding(t, edge-1, 0, math.MaxUint64-1, 7) // one slot, so that 2r is greatest
+	wantPut(t, r, 8, 5, api.Done, edge-1)
+	wantCells(t, m, edge, 0, math.MaxUint64, 8)
+	wantPut(t, r, 8, 1, api.Closed, 0)
+}
+
+// P3.2, P3.3: all values go in and out as they are.
+func TestValuesOfAllSizes(t *testing.T) {
+	_, r := fresh(t, 2)
+	for _, v := range []uint64{0, 1, edge - 1, edge, edge + 1, math.MaxUint64} {
+		o := r.Put(v)
+		run(t, o)
+		if o.Outcome() != api.Done {
+			t.Fatalf("Put(%d): %d", v, o.Outcome())
+		}
+		wantRun(t, "Take", r.Take(), 5, api.Done, v)
+	}
+}
+
+// P3.3
+func TestTakeStepByStep(t *testing.T) {
+	m, r := holding(t, 6, 3, 4, 70, 3, 71) // two slots; ticket 3 is of round 1, and its slot has its value
+	o := r.Take()
+	wantSteps(t, m, o,
+		[]uint64{6, 3, 4, 70, 3, 71},
+		[]uint64{6, 3, 4, 70, 3, 71},
+		[]uint64{6, 3, 4, 70, 3, 71},
+		[]uint64{6, 3, 4, 70, 4, 71},
+		[]uint64{6, 4, 4, 70, 4, 71})
+	wantTold(t, "Take", o, api.Done, 71, 0)
+}
+
+// P3.3
+func TestTakeLoadsTheValueAtItsThirdStep(t *testing.T) {
+	m, r := holding(t, 1, 0, 1, 70)
+	o := r.Take()
+	o.Step()
+	o.Step()
+	m.Store(3, 71)
+	o.Step()
+	m.Store(3, 72)
+	wantRun(t, "Take", o, 2, api.Done, 71)
+}
+
+// P3.3: each turn but the one that tells of a value.
+func TestTakeOfNothing(t *testing.T) {
+	for _, turn := range []uint64{0, 1, 2, 3, 4, 6, 7, edge, edge + 5, math.MaxUint64} {
+		held := []uint64{9, 2, turn, 70} // one slot; ticket 2 is there at 5
+		m, r := holding(t, held...)
+		o := r.Take()
+		wantSteps(t, m, o, held, held)
+		wantTold(t, "Take", o, api.None, 0, 0)
+		o = r.Look()
+		wantSteps(t, m, o, held, held)
+		wantTold(t, "Look", o, api.None, 0, 0)
+		o = r.Drain()
+		wantSteps(t, m, o, held, held, held)
+		wantTold(t, "Drain", o, api.None, 0, 0)
+	}
+}
+
+// P3.3: a Take asks for no tail.
+func TestTakeOfAnEndedRing(t *testing.T) {
+	_, r := holding(t, edge, 0, 0, 0)
+	wantRun(t, "Take", r.Take(), 2, api.None, 0)
+	_, r = holding(t, edge, 0, 1, 70)
+	wantRun(t, "Take", r.Take(), 5, api.Done, 70)
+}
+
+// P3.3
+func TestDrainStepByStep(t *testing.T) {
+	for _, tail := range []uint64{4, 3, edge + 4, edge + 2, edge} {
+		m, r := holding(t, tail, 3, 4, 70, 3, 71)
+		o := r.Drain()
+		wantSteps(t, m, o,
+			[]uint64{tail, 3, 4, 70, 3, 71},
+			[]uint64{tail, 3, 4, 70, 3, 71},
+			[]uint64{tail, 3, 4, 70, 3, 71},
+			[]uint64{tail, 3, 4, 70, 3, 71},
+			[]uint64{tail, 3, 4, 70, 4, 71},
+			[]uint64{tail, 4, 4, 70, 4, 71})
+		wantTold(t, "Drain", o, api.Done, 71, 0)
+	}
+}
+
+// P3.3
+func TestDrainOfAnEndedRing(t *testing.T) {
+	for _, head := range []uint64{0, 1, 3, 77, edge - 1, edge, edge + 3, math.MaxUint64} { // beyond 2^63 the sum wraps
+		held := []uint64{head + edge, head, 1, 70, 1, 71}
+		m, r := holding(t, held...)
+		o := r.Drain()
+		wantSteps(t, m, o, held, held)
+		wantTold(t, "Drain", o, api.Ended, 0, 0)
+	}
+}
+
+// P3.3: the tail is loaded ahead of the head.
+func TestDrainLoadsTheTailFirst(t *testing.T) {
+	_, r := fresh(t, 1)
+	o := r.Drain()
+	o.Step()
+	wantRun(t, "Close", r.Close(), 2, api.Done, 0)
+	if n := run(t, o); n != 2 { // it has seen the tail of a ring that was open
+		t.Errorf("%d steps behind the first one", n)
+	}
+	wantTold(t, "Drain", o, api.None, 0, 0)
+}
+
+// P3.3
+func TestLookTakesNothing(t *testing.T) {
+	held := []uint64{6, 3, 4, 70, 3, 71}
+	m, r := holding(t, held...)
+	for range 2 {
+		o := r.Look()
+		wantSteps(t, m, o, held, held)
+		wantTold(t, "Look", o, api.Done, 0, 0)
+	}
+	wantRun(t, "Take", r.Take(), 5, api.Done, 71)
+}
+
+// P3.3: numbers are those of 64 bits.
+func TestHeadsWrap(t *testing.T) {
+	// One slot: ticket 2^64 - 1 is of the round of that number, and its slot has it at 2^64 - 1.
+	m, r := holding(t, 0, math.MaxUint64, math.MaxUint64, 70)
+	wantRun(t, "Look", r.Look(), 2, api.Done, 0)
+	wantRun(t, "Take", r.Take(), 5, api.Done, 70)
+	wantCells(t, m, 0, 0, 0, 70)
+	m, r = holding(t, 9, edge+3, 7, 70)
+	wantRun(t, "Drain", r.Drain(), 6, api.Done, 70)
+	wantCells(t, m, 9, edge+4, 8, 70)
+	// Three slots: 2^64 - 1 is a multiple of three.
+	m, r = holding(t, 0, math.MaxUint64, 0xAAAAAAAAAAAAAAAB, 70, 5, 71, 5, 72)
+	wantRun(t, "Take", r.Take(), 5, api.Done, 70)
+	wantCells(t, m, 0, 0, 0xAAAAAAAAAAAAAAAC, 70, 5, 71, 5, 72)
+}
+
+// P3.4
+func TestCloseStepByStep(t *testing.T) {
+	for _, tail := range []uint64{0, 1, 77, edge - 1} {
+		m, r := holding(t, tail, 3, 5, 70)
+		o := r.Close()
+		wantSteps(t, m, o, []uint64{tail, 3, 5, 70}, []uint64{tail + edge, 3, 5, 70})
+		wantTold(t, "Close", o, api.Done, 0, 0)
+	}
+}
+
+// P3.4
+func TestCloseOfAClosedRing(t *testing.T) {
+	for _, tail := range []uint64{edge, edge + 1, math.MaxUint64} {
+		m, r := holding(t, tail, 3, 5, 70)
+		o := r.Close()
+		wantSteps(t, m, o, []uint64{tail, 3, 5, 70})
+		wantTold(t, "Close", o, api.Done, 0, 0)
+	}
+}
+
+// P3.4
+func TestCloseGoesOnAtItsBeginning(t *testing.T) {
+	m, r := fresh(t, 4)
+	o := r.Close()
+	for ticket := range uint64(3) {
+		o.Step()
+		wantPut(t, r, 7, 5, api.Done, ticket)
+		if o.Step() {
+			t.Fatal("a Close whose Swap is false is over")
+		}
+		if m.Peek(0) != ticket+1 {
+			t.Fatalf("the tail is %d", m.Peek(0))
+		}
+	}
+	wantRun(t, "Close", o, 2, api.Done, 0)
+	if m.Peek(0) != edge+3 {
+		t.Errorf("the tail is %d", m.Peek(0))
+	}
+	a, b := laid(t, m, 0, 4).Close(), r.Close()
+	a.Step()
+	b.Step()
+	wantRun(t, "Close", a, 1, api.Done, 0)
+	wantRun(t, "Close", b, 2, api.Done, 0) // the Swap, and a tail that is closed
+	if m.Peek(0) != edge {
+		t.Errorf("the tail is %d", m.Peek(0))
+	}
+}
+
+// P3.5
+func TestNothingIsToldAheadOfTheOutcome(t *testing.T) {
+	for _, c := range []struct {
+		name  string
+		begin func(*Ring) *Op
+		steps int
+	}{
+		{"Put", func(r *Ring) *Op { return r.Put(7) }, 5},
+		{"Take", (*Ring).Take, 5},
+		{"Drain", (*Ring).Drain, 6},
+		{"Look", (*Ring).Look, 2},
+		{"Close", (*Ring).Close, 2},
+	} {
+		_, r := holding(t, 6, 5, 4, 70, 4, 71, 3, 72) // three slots, of which the last one has a value
+		o := c.begin(r)
+		for i := range c.steps {
+			wantTold(t, c.name, o, api.Pending, 0, 0)
+			if over := o.Step(); over != (i == c.steps-1) {
+				t.Errorf("%s: over %t at step %d", c.name, over, i+1)
+			}
+		}
+		if !o.Over() || o.Outcome() != api.Done {
+			t.Errorf("%s: outcome %d", c.name, o.Outcome())
+		}
+	}
+}
+
+// P3.5
+func TestStepOfOneThatIsOverDoesNothing(t *testing.T) {
+	m, r := fresh(t, 1)
+	put, full, take, look, drain, closing := r.Put(7), r.Put(8), r.Take(), r.Look(), r.Drain(), r.Close()
+	run(t, put)
+	run(t, full)
+	run(t, look)
+	run(t, take)
+	run(t, closing)
+	run(t, drain)
+	again := r.Put(9)
+	run(t, again)
+	laid(t, m, 0, 1) // so that an access too many would tell another thing
+	held, touched := m.All(), m.Touched()
+	for _, c := range []struct {
+		o       *Op
+		outcome int
+		value   uint64
+	}{{put, api.Done, 0}, {full, api.Full, 0}, {take, api.Done, 7}, {look, api.Done, 0}, {drain, api.Ended, 0}, {closing, api.Done, 0}, {again, api.Closed, 0}} {
+		for range 7 {
+			if !c.o.Step() {
+				t.Error("an operation that was over is over no more")
+			}
+		}
+		wantTold(t, "an operation that is over", c.o, c.outcome, c.value, 0)
+	}
+	if m.Touched() != touched {
+		t.Errorf("%d accesses", m.Touched()-touched)
+	}
+	wantCells(t, m, held...)
+}
+
+// P3.5: an operation that isn't stepped does nothing, and its calls touch nothing.
+func TestOperationsBeginWithTheirFirstStep(t *testing.T) {
+	m, r := fresh(t, 1)
+	touched := m.Touched()
+	first, closing, take := r.Put(7), r.Close(), r.Take()
+	if m.Touched() != touched {
+		t.Error("an operation has touched the memory ahead of its first step")
+	}
+	wantRun(t, "Close", closing, 2, api.Done, 0)
+	run(t, first)
+	wantTold(t, "Put", first, api.Closed, 0, 0)
+	wantRun(t, "Take", take, 2, api.None, 0)
+}
+
+// Rule 6: two rings in two memories, and two that share one.
+func TestRingsAreApart(t *testing.T) {
+	m := cells.New(20)
+	a, b := laid(t, m, 0, 2), laid(t, m, 6, 3)
+	other, c := fresh(t, 2)
+	wantPut(t, a, 7, 5, api.Done, 0)
+	wantRun(t, "Take", b.Take(), 2, api.None, 0)
+	wantRun(t, "Take", c.Take(), 2, api.None, 0)
+	wantPut(t, b, 8, 5, api.Done, 0)
+	wantPut(t, c, 7, 5, api.Done, 0)
+	if !slices.Equal(m.All()[:6], other.All()) {
+		t.Errorf("the same was done: %v, %v", m.All()[:6], other.All())
+	}
+	wantRun(t, "Close", b.Close(), 2, api.Done, 0)
+	wantPut(t, a, 9, 5, api.Done, 1)
+	wantRun(t, "Take", a.Take(), 5, api.Done, 7)
+	wantRun(t, "Drain", b.Drain(), 6, api.Done, 8)
+	wantRun(t, "Drain", b.Drain(), 2, api.Ended, 0)
+}
+
+// Rule 1: all numbers in all cells.
+func TestStepsEndWhateverTheCellsHold(t *testing.T) {
+	odd := []uint64{0, 1, 2, 3, edge - 1, edge, edge + 1, math.MaxUint64 - 1, math.MaxUint64}
+	for _, tail := range odd {
+		for _, head := range odd {
+			for _, turn := range odd {
+				held := []uint64{tail, head, turn, 7, turn, 8, turn, 9}
+				_, r := holding(t, held...)
+				for _, o := range []*Op{r.Put(5), r.Take(), r.Drain(), r.Look(), r.Close()} {
+					for range 9 {
+						o.Step()
+					}
+				}
+			}
+		}
+	}
+}
