@@ -8,6 +8,7 @@ import (
 
 	"troupe/api"
 	"troupe/cells"
+	"troupe/trial"
 )
 
 // plain is an operation as the chapter's words have it: which access is its next one, by the chapter's numbers.
@@ -183,36 +184,11 @@ func TestStepsAgainstPlainOnes(t *testing.T) {
 				t.Errorf("Step tells %t", over)
 			}
 			wantTold(t, "an operation", o, int(p.outcome), p.value, p.ticket)
-			wantCells(t, m, mem...)
+			trial.Cells(t, m, mem...)
 			if t.Failed() {
 				t.Fatalf("seed %d, step %d, %d slots, kind %d", seed, i, slots, p.kind)
 			}
 		}
-	}
-}
-
-// everyOrder plays once for each row of picks that there can be: pick(n) answers one of the numbers from 0 to n - 1.
-func everyOrder(play func(pick func(n int) int)) (plays int) {
-	var picks, of []int
-	for {
-		at := 0
-		of = of[:0]
-		play(func(n int) int {
-			if at == len(picks) {
-				picks = append(picks, 0)
-			}
-			of = append(of, n)
-			at++
-			return picks[at-1]
-		})
-		plays++
-		for len(picks) > 0 && picks[len(picks)-1] == of[len(picks)-1]-1 {
-			picks = picks[:len(picks)-1]
-		}
-		if len(picks) == 0 {
-			return plays
-		}
-		picks[len(picks)-1]++
 	}
 }
 
@@ -340,7 +316,7 @@ func (s *stage) empty() {
 	}
 	for range s.slots + 1 {
 		o := s.r.Drain()
-		run(s.t, o)
+		trial.Run(s.t, o)
 		if o.Outcome() != api.Done {
 			if o.Outcome() != last {
 				s.t.Errorf("the last Drain: %d", o.Outcome())
@@ -383,7 +359,7 @@ func TestEveryOrder(t *testing.T) {
 		{2, 10000, [][]int{{put}, {take, drain}, {closing}}},
 	} {
 		t.Run(fmt.Sprint(c.slots, c.threads), func(t *testing.T) {
-			plays := everyOrder(func(pick func(int) int) { newStage(t, c.slots, c.threads).play(pick) })
+			plays := trial.EveryOrder(func(pick func(int) int) { newStage(t, c.slots, c.threads).play(pick) })
 			if plays < c.atLeast {
 				t.Errorf("%d orders", plays)
 			}

@@ -7,6 +7,7 @@ import (
 
 	"troupe/api"
 	"troupe/cells"
+	"troupe/trial"
 )
 
 const edge = uint64(1) << 63 // what a closed ring's tail has beside the ticket
@@ -37,18 +38,6 @@ func holding(t *testing.T, held ...uint64) (*cells.Mem, *Ring) {
 	return m, r
 }
 
-// run steps o till it is over, and counts the steps.
-func run(t *testing.T, o *Op) int {
-	t.Helper()
-	for n := 1; n <= 1000; n++ {
-		if o.Step() {
-			return n
-		}
-	}
-	t.Fatal("an operation that nobody hinders doesn't end")
-	return 0
-}
-
 func wantTold(t *testing.T, name string, o *Op, outcome int, value, ticket uint64) {
 	t.Helper()
 	if o.Over() != (outcome != api.Pending) || o.Outcome() != outcome || o.Value() != value || o.Ticket() != ticket {
@@ -59,7 +48,7 @@ func wantTold(t *testing.T, name string, o *Op, outcome int, value, ticket uint6
 func wantPut(t *testing.T, r *Ring, v uint64, steps, outcome int, ticket uint64) {
 	t.Helper()
 	o := r.Put(v)
-	if n := run(t, o); n != steps {
+	if n := trial.Run(t, o); n != steps {
 		t.Errorf("Put(%d): %d steps, want %d", v, n, steps)
 	}
 	wantTold(t, "Put", o, outcome, 0, ticket)
@@ -68,39 +57,15 @@ func wantPut(t *testing.T, r *Ring, v uint64, steps, outcome int, ticket uint64)
 // wantRun is of operations that have no ticket.
 func wantRun(t *testing.T, name string, o *Op, steps, outcome int, value uint64) {
 	t.Helper()
-	if n := run(t, o); n != steps {
+	if n := trial.Run(t, o); n != steps {
 		t.Errorf("%s: %d steps, want %d", name, n, steps)
 	}
 	wantTold(t, name, o, outcome, value, 0)
 }
 
-func wantCells(t *testing.T, m *cells.Mem, want ...uint64) {
-	t.Helper()
-	if got := m.All(); !slices.Equal(got, want) {
-		t.Errorf("the cells hold %v, want %v", got, want)
-	}
-}
-
-// wantSteps steps o, and holds all cells against what they shall hold behind each step: at the last one it is over.
-func wantSteps(t *testing.T, m *cells.Mem, o *Op, behind ...[]uint64) {
-	t.Helper()
-	for i, want := range behind {
-		touched := m.Touched()
-		if over := o.Step(); over != (i == len(behind)-1) || o.Over() != over {
-			t.Errorf("step %d of %d: over %t", i+1, len(behind), over)
-		}
-		if m.Touched() != touched+1 {
-			t.Errorf("step %d: %d accesses", i+1, m.Touched()-touched)
-		}
-		if got := m.All(); !slices.Equal(got, want) {
-			t.Errorf("behind step %d the cells hold %v, want %v", i+1, got, want)
-		}
-	}
-}
-
 func TestExamplesOfTheChapter(t *testing.T) {
 	m, r := fresh(t, 2)
-	wantCells(t, m, 0, 0, 0, 0, 0, 0)
+	trial.Cells(t, m, 0, 0, 0, 0, 0, 0)
 	wantPut(t, r, 7, 5, api.Done, 0)
 	wantPut(t, r, 8, 5, api.Done, 1)
 	wantPut(t, r, 9, 2, api.Full, 0)
@@ -183,12 +148,12 @@ func TestRingBesideOthers(t *testing.T) {
 	wantPut(t, r, 70, 5, api.Done, 0)
 	wantPut(t, r, 71, 5, api.Done, 1)
 	wantPut(t, r, 72, 5, api.Done, 2)
-	wantCells(t, m, 9, 9, 9, 3, 0, 1, 70, 1, 71, 1, 72, 9)
+	trial.Cells(t, m, 9, 9, 9, 3, 0, 1, 70, 1, 71, 1, 72, 9)
 	wantRun(t, "Take", r.Take(), 5, api.Done, 70)
-	wantCells(t, m, 9, 9, 9, 3, 1, 2, 70, 1, 71, 1, 72, 9)
+	trial.Cells(t, m, 9, 9, 9, 3, 1, 2, 70, 1, 71, 1, 72, 9)
 	wantPut(t, r, 73, 5, api.Done, 3)
 	wantRun(t, "Close", r.Close(), 2, api.Done, 0)
-	wantCells(t, m, 9, 9, 9, edge+4, 1, 3, 73, 1, 71, 1, 72, 9)
+	trial.Cells(t, m, 9, 9, 9, edge+4, 1, 3, 73, 1, 71, 1, 72, 9)
 }
 
 // P3.1: what a ring is lies in its cells alone.
@@ -199,7 +164,7 @@ func TestRingIsLaidOutAnew(t *testing.T) {
 	wantRun(t, "Take", r.Take(), 5, api.Done, 7)
 	wantRun(t, "Close", r.Close(), 2, api.Done, 0)
 	again := laid(t, m, 0, 2)
-	wantCells(t, m, 0, 0, 0, 0, 0, 0)
+	trial.Cells(t, m, 0, 0, 0, 0, 0, 0)
 	wantPut(t, again, 5, 5, api.Done, 0)
 	wantRun(t, "Take", r.Take(), 5, api.Done, 5)
 }
@@ -208,7 +173,7 @@ func TestRingIsLaidOutAnew(t *testing.T) {
 func TestPutStepByStep(t *testing.T) {
 	m, r := holding(t, 5, 3, 6, 70, 4, 71) // two slots; ticket 5 is of round 2, and its slot waits for it
 	o := r.Put(9)
-	wantSteps(t, m, o,
+	trial.Steps(t, m, o,
 		[]uint64{5, 3, 6, 70, 4, 71},
 		[]uint64{5, 3, 6, 70, 4, 71},
 		[]uint64{6, 3, 6, 70, 4, 71},
@@ -222,7 +187,7 @@ func TestPutIntoAClosedRing(t *testing.T) {
 	for _, tail := range []uint64{edge, edge + 1, edge + 77, math.MaxUint64} {
 		m, r := holding(t, tail, 0, 0, 0)
 		o := r.Put(9)
-		wantSteps(t, m, o, []uint64{tail, 0, 0, 0})
+		trial.Steps(t, m, o, []uint64{tail, 0, 0, 0})
 		wantTold(t, "Put", o, api.Closed, 0, 0)
 	}
 }
@@ -235,7 +200,7 @@ func TestPutIntoAFullRing(t *testing.T) {
 		held := []uint64{c.tail, 0, c.turn, 7}
 		m, r := holding(t, held...)
 		o := r.Put(9)
-		wantSteps(t, m, o, held, held)
+		trial.Steps(t, m, o, held, held)
 		wantTold(t, "Put", o, api.Full, 0, 0)
 	}
 }
@@ -250,7 +215,7 @@ func TestPutLooksAtItsTicketsSlot(t *testing.T) {
 		m, r := holding(t, held...)
 		wantPut(t, r, 9, 5, api.Done, 3+slot)
 		held[0], held[2+2*slot], held[3+2*slot] = 4+slot, 3, 9
-		wantCells(t, m, held...)
+		trial.Cells(t, m, held...)
 	}
 }
 
@@ -264,12 +229,12 @@ func TestPutGoesOnAtItsBeginningWhenTheTurnIsAhead(t *testing.T) {
 			if o.Step() || m.Touched() != touched+1 {
 				t.Fatal("a Put whose slot's turn is ahead has ended, or touched more than one cell")
 			}
-			wantCells(t, m, 4, 4, 9, 70)
+			trial.Cells(t, m, 4, 4, 9, 70)
 		}
 	}
 	m.Store(2, 10)
 	m.Store(0, 5) // its next step loads the tail anew
-	wantSteps(t, m, o,
+	trial.Steps(t, m, o,
 		[]uint64{5, 4, 10, 70},
 		[]uint64{5, 4, 10, 70},
 		[]uint64{6, 4, 10, 70},
@@ -285,7 +250,7 @@ func TestPutGoesOnAtItsBeginningWhenTheTailIsAnotherOne(t *testing.T) {
 	late.Step()
 	late.Step()
 	wantPut(t, r, 8, 5, api.Done, 0)
-	if n := run(t, late); n != 6 {
+	if n := trial.Run(t, late); n != 6 {
 		t.Errorf("%d steps behind the second one", n)
 	}
 	wantTold(t, "Put", late, api.Done, 0, 1)
@@ -295,7 +260,7 @@ func TestPutGoesOnAtItsBeginningWhenTheTailIsAnotherOne(t *testing.T) {
 	late.Step()
 	late.Step()
 	wantPut(t, r, 8, 5, api.Done, 0)
-	if n := run(t, late); n != 3 { // the Swap, the tail, the turn
+	if n := trial.Run(t, late); n != 3 { // the Swap, the tail, the turn
 		t.Errorf("%d steps behind the second one", n)
 	}
 	wantTold(t, "Put", late, api.Full, 0, 0)
@@ -305,7 +270,7 @@ func TestPutGoesOnAtItsBeginningWhenTheTailIsAnotherOne(t *testing.T) {
 	late.Step()
 	late.Step()
 	wantRun(t, "Close", r.Close(), 2, api.Done, 0)
-	if n := run(t, late); n != 2 { // the Swap, the tail
+	if n := trial.Run(t, late); n != 2 { // the Swap, the tail
 		t.Errorf("%d steps behind the second one", n)
 	}
 	wantTold(t, "Put", late, api.Closed, 0, 0)
@@ -320,18 +285,18 @@ func TestPutThatHasItsTicketGoesIn(t *testing.T) {
 	}
 	wantRun(t, "Close", r.Close(), 2, api.Done, 0)
 	wantRun(t, "Drain", r.Drain(), 3, api.None, 0)
-	if n := run(t, o); n != 2 {
+	if n := trial.Run(t, o); n != 2 {
 		t.Errorf("%d steps behind the third one", n)
 	}
 	wantTold(t, "Put", o, api.Done, 0, 0)
-	wantCells(t, m, edge+1, 0, 1, 7)
+	trial.Cells(t, m, edge+1, 0, 1, 7)
 }
 
 // P3.2: the last ticket that there is.
 func TestPutOfTheGreatestTicket(t *testing.T) {
 	m, r := holding(t, edge-1, 0, math.MaxUint64-1, 7) // one slot, so that 2r is greatest
 	wantPut(t, r, 8, 5, api.Done, edge-1)
-	wantCells(t, m, edge, 0, math.MaxUint64, 8)
+	trial.Cells(t, m, edge, 0, math.MaxUint64, 8)
 	wantPut(t, r, 8, 1, api.Closed, 0)
 }
 
@@ -340,7 +305,7 @@ func TestValuesOfAllSizes(t *testing.T) {
 	_, r := fresh(t, 2)
 	for _, v := range []uint64{0, 1, edge - 1, edge, edge + 1, math.MaxUint64} {
 		o := r.Put(v)
-		run(t, o)
+		trial.Run(t, o)
 		if o.Outcome() != api.Done {
 			t.Fatalf("Put(%d): %d", v, o.Outcome())
 		}
@@ -352,7 +317,7 @@ func TestValuesOfAllSizes(t *testing.T) {
 func TestTakeStepByStep(t *testing.T) {
 	m, r := holding(t, 6, 3, 4, 70, 3, 71) // two slots; ticket 3 is of round 1, and its slot has its value
 	o := r.Take()
-	wantSteps(t, m, o,
+	trial.Steps(t, m, o,
 		[]uint64{6, 3, 4, 70, 3, 71},
 		[]uint64{6, 3, 4, 70, 3, 71},
 		[]uint64{6, 3, 4, 70, 3, 71},
@@ -379,13 +344,13 @@ func TestTakeOfNothing(t *testing.T) {
 		held := []uint64{9, 2, turn, 70} // one slot; ticket 2 is there at 5
 		m, r := holding(t, held...)
 		o := r.Take()
-		wantSteps(t, m, o, held, held)
+		trial.Steps(t, m, o, held, held)
 		wantTold(t, "Take", o, api.None, 0, 0)
 		o = r.Look()
-		wantSteps(t, m, o, held, held)
+		trial.Steps(t, m, o, held, held)
 		wantTold(t, "Look", o, api.None, 0, 0)
 		o = r.Drain()
-		wantSteps(t, m, o, held, held, held)
+		trial.Steps(t, m, o, held, held, held)
 		wantTold(t, "Drain", o, api.None, 0, 0)
 	}
 }
@@ -403,7 +368,7 @@ func TestDrainStepByStep(t *testing.T) {
 	for _, tail := range []uint64{4, 3, edge + 4, edge + 2, edge} {
 		m, r := holding(t, tail, 3, 4, 70, 3, 71)
 		o := r.Drain()
-		wantSteps(t, m, o,
+		trial.Steps(t, m, o,
 			[]uint64{tail, 3, 4, 70, 3, 71},
 			[]uint64{tail, 3, 4, 70, 3, 71},
 			[]uint64{tail, 3, 4, 70, 3, 71},
@@ -420,7 +385,7 @@ func TestDrainOfAnEndedRing(t *testing.T) {
 		held := []uint64{head + edge, head, 1, 70, 1, 71}
 		m, r := holding(t, held...)
 		o := r.Drain()
-		wantSteps(t, m, o, held, held)
+		trial.Steps(t, m, o, held, held)
 		wantTold(t, "Drain", o, api.Ended, 0, 0)
 	}
 }
@@ -431,7 +396,7 @@ func TestDrainLoadsTheTailFirst(t *testing.T) {
 	o := r.Drain()
 	o.Step()
 	wantRun(t, "Close", r.Close(), 2, api.Done, 0)
-	if n := run(t, o); n != 2 { // it has seen the tail of a ring that was open
+	if n := trial.Run(t, o); n != 2 { // it has seen the tail of a ring that was open
 		t.Errorf("%d steps behind the first one", n)
 	}
 	wantTold(t, "Drain", o, api.None, 0, 0)
@@ -443,7 +408,7 @@ func TestLookTakesNothing(t *testing.T) {
 	m, r := holding(t, held...)
 	for range 2 {
 		o := r.Look()
-		wantSteps(t, m, o, held, held)
+		trial.Steps(t, m, o, held, held)
 		wantTold(t, "Look", o, api.Done, 0, 0)
 	}
 	wantRun(t, "Take", r.Take(), 5, api.Done, 71)
@@ -455,14 +420,14 @@ func TestHeadsWrap(t *testing.T) {
 	m, r := holding(t, 0, math.MaxUint64, math.MaxUint64, 70)
 	wantRun(t, "Look", r.Look(), 2, api.Done, 0)
 	wantRun(t, "Take", r.Take(), 5, api.Done, 70)
-	wantCells(t, m, 0, 0, 0, 70)
+	trial.Cells(t, m, 0, 0, 0, 70)
 	m, r = holding(t, 9, edge+3, 7, 70)
 	wantRun(t, "Drain", r.Drain(), 6, api.Done, 70)
-	wantCells(t, m, 9, edge+4, 8, 70)
+	trial.Cells(t, m, 9, edge+4, 8, 70)
 	// Three slots: 2^64 - 1 is a multiple of three.
 	m, r = holding(t, 0, math.MaxUint64, 0xAAAAAAAAAAAAAAAB, 70, 5, 71, 5, 72)
 	wantRun(t, "Take", r.Take(), 5, api.Done, 70)
-	wantCells(t, m, 0, 0, 0xAAAAAAAAAAAAAAAC, 70, 5, 71, 5, 72)
+	trial.Cells(t, m, 0, 0, 0xAAAAAAAAAAAAAAAC, 70, 5, 71, 5, 72)
 }
 
 // P3.4
@@ -470,7 +435,7 @@ func TestCloseStepByStep(t *testing.T) {
 	for _, tail := range []uint64{0, 1, 77, edge - 1} {
 		m, r := holding(t, tail, 3, 5, 70)
 		o := r.Close()
-		wantSteps(t, m, o, []uint64{tail, 3, 5, 70}, []uint64{tail + edge, 3, 5, 70})
+		trial.Steps(t, m, o, []uint64{tail, 3, 5, 70}, []uint64{tail + edge, 3, 5, 70})
 		wantTold(t, "Close", o, api.Done, 0, 0)
 	}
 }
@@ -480,7 +445,7 @@ func TestCloseOfAClosedRing(t *testing.T) {
 	for _, tail := range []uint64{edge, edge + 1, math.MaxUint64} {
 		m, r := holding(t, tail, 3, 5, 70)
 		o := r.Close()
-		wantSteps(t, m, o, []uint64{tail, 3, 5, 70})
+		trial.Steps(t, m, o, []uint64{tail, 3, 5, 70})
 		wantTold(t, "Close", o, api.Done, 0, 0)
 	}
 }
@@ -544,14 +509,14 @@ func TestNothingIsToldAheadOfTheOutcome(t *testing.T) {
 func TestStepOfOneThatIsOverDoesNothing(t *testing.T) {
 	m, r := fresh(t, 1)
 	put, full, take, look, drain, closing := r.Put(7), r.Put(8), r.Take(), r.Look(), r.Drain(), r.Close()
-	run(t, put)
-	run(t, full)
-	run(t, look)
-	run(t, take)
-	run(t, closing)
-	run(t, drain)
+	trial.Run(t, put)
+	trial.Run(t, full)
+	trial.Run(t, look)
+	trial.Run(t, take)
+	trial.Run(t, closing)
+	trial.Run(t, drain)
 	again := r.Put(9)
-	run(t, again)
+	trial.Run(t, again)
 	laid(t, m, 0, 1) // so that an access too many would tell another thing
 	held, touched := m.All(), m.Touched()
 	for _, c := range []struct {
@@ -569,7 +534,7 @@ func TestStepOfOneThatIsOverDoesNothing(t *testing.T) {
 	if m.Touched() != touched {
 		t.Errorf("%d accesses", m.Touched()-touched)
 	}
-	wantCells(t, m, held...)
+	trial.Cells(t, m, held...)
 }
 
 // P3.5: an operation that isn't stepped does nothing, and its calls touch nothing.
@@ -581,7 +546,7 @@ func TestOperationsBeginWithTheirFirstStep(t *testing.T) {
 		t.Error("an operation has touched the memory ahead of its first step")
 	}
 	wantRun(t, "Close", closing, 2, api.Done, 0)
-	run(t, first)
+	trial.Run(t, first)
 	wantTold(t, "Put", first, api.Closed, 0, 0)
 	wantRun(t, "Take", take, 2, api.None, 0)
 }
