@@ -74,65 +74,16 @@ func TestExamplesOfTheChapter(t *testing.T) {
 }
 
 // P4.1
-func TestSize(t *testing.T) {
-	for slots := range api.MaxSlots {
-		if got := Size(slots + 1); got != 3+slots {
-			t.Errorf("Size(%d) = %d", slots+1, got)
-		}
-	}
-	for _, slots := range []int{math.MinInt, -65, -2, -1, 0, api.MaxSlots + 1, api.MaxCells, math.MaxInt - 1, math.MaxInt} {
-		if got := Size(slots); got != 0 {
-			t.Errorf("Size(%d) = %d", slots, got)
-		}
-	}
-}
-
-// P4.1
-func TestMakeRefuses(t *testing.T) {
-	refused := func(m *cells.Mem, base, slots int) {
-		t.Helper()
-		if d, e := Make(m, base, slots); d != nil || e != api.ErrArg {
-			t.Errorf("Make(memory %t, %d, %d) = %v, %d", m != nil, base, slots, d, e)
-		}
-	}
-	m := cells.New(100)
-	for i := range m.Len() {
-		m.Store(i, 5)
-	}
-	touched := m.Touched()
-	for _, slots := range []int{math.MinInt, -2, -1, 0, api.MaxSlots + 1, math.MaxInt} {
-		refused(m, 0, slots)
-	}
-	for _, base := range []int{math.MinInt, -5, -1, 96, 97, 99, 100, math.MaxInt - 4, math.MaxInt} { // three slots: five cells
-		refused(m, base, 3)
-	}
-	refused(m, 35, api.MaxSlots)
-	refused(nil, 0, 3)
-	refused(nil, -1, 0)
-	refused(cells.New(0), 0, 1)
-	refused(cells.New(2), 0, 1)
-	refused(cells.New(65), 0, api.MaxSlots)
-	if m.Touched() != touched || slices.Max(m.All()) != 5 || slices.Min(m.All()) != 5 {
-		t.Error("a Make that was refused has touched the memory")
-	}
-}
-
-// P4.1
-func TestMakeLaysOutItsCellsAlone(t *testing.T) {
-	for _, c := range []struct{ cells, base, slots int }{
-		{3, 0, 1}, {4, 0, 2}, {9, 6, 1}, {9, 2, 5}, {9, 0, 5}, {66, 0, 64}, {100, 34, 64}, {100, 7, 64},
-		{api.MaxCells, api.MaxCells - 66, 64}, {api.MaxCells, 0, 3},
-	} {
-		m := cells.New(c.cells)
-		for i := range c.cells {
-			m.Store(i, 9)
-		}
-		want := m.All()
-		want[c.base], want[c.base+1] = 1, 1
-		clear(want[c.base+2 : c.base+2+c.slots])
-		laid(t, m, c.base, c.slots)
-		trial.Cells(t, m, want...)
-	}
+func TestSizeAndMake(t *testing.T) {
+	trial.Layout{
+		Most:  api.MaxSlots,
+		Cells: func(slots int) []uint64 { return append([]uint64{1, 1}, make([]uint64, slots)...) },
+		Size:  Size,
+		Make: func(m *cells.Mem, base, slots int) (bool, api.Errno) {
+			d, e := Make(m, base, slots)
+			return d != nil, e
+		},
+	}.Hold(t)
 }
 
 // P4.1: what a deque is lies in its cells alone.

@@ -147,26 +147,15 @@ func TestStepsAgainstPlainOnes(t *testing.T) {
 				m.Store(cell, v)
 				mem[cell] = v
 			}
-			stepBoth(t, m, mem, ops[k], plains[k])
+			trial.One(t, m, ops[k])
+			plains[k].step(mem)
+			wantTold(t, "an operation", ops[k], plains[k].outcome, plains[k].value)
+			trial.Cells(t, m, mem...)
 			if t.Failed() {
 				t.Fatalf("seed %d, step %d, %d slots, kind %d", seed, i, slots, plains[k].kind)
 			}
 		}
 	}
-}
-
-func stepBoth(t *testing.T, m *cells.Mem, mem []uint64, o *Op, p *plain) {
-	t.Helper()
-	accesses, touched := 1, m.Touched()
-	if o.Over() {
-		accesses = 0
-	}
-	if over := o.Step(); over != o.Over() || m.Touched() != touched+accesses {
-		t.Errorf("Step tells %t, by %d accesses, want %d", over, m.Touched()-touched, accesses)
-	}
-	p.step(mem)
-	wantTold(t, "an operation", o, p.outcome, p.value)
-	trial.Cells(t, m, mem...)
 }
 
 // thread does its operations one behind the other.
@@ -206,21 +195,8 @@ func newStage(t *testing.T, slots, ahead int, kinds [][]int) *stage {
 
 // play picks threads till all of them are through.
 func (s *stage) play(pick func(n int) int) {
-	var order []int
-	for !s.t.Failed() {
-		var going []int
-		for k, th := range s.threads {
-			if th.at < len(th.kinds) {
-				going = append(going, k)
-			}
-		}
-		if len(going) == 0 {
-			break
-		}
-		k := going[pick(len(going))]
-		order = append(order, k)
-		s.step(s.threads[k])
-	}
+	goes := func(k int) bool { return s.threads[k].at < len(s.threads[k].kinds) }
+	order := trial.Turns(s.t, len(s.threads), goes, func(k int) { s.step(s.threads[k]) }, pick)
 	s.empty()
 	if s.t.Failed() { // it tells the first order that is wrong, and not those behind it too
 		s.t.Fatalf("%d slots, order %v; pushed %v, taken %v, stolen %v", s.slots, order, s.pushed, s.taken, s.stolen)

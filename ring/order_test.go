@@ -174,15 +174,8 @@ func TestStepsAgainstPlainOnes(t *testing.T) {
 				mem[cell] = v
 			}
 			o, p := ops[k], plains[k]
-			touched, was := m.Touched(), o.Over()
-			over := o.Step()
+			trial.One(t, m, o)
 			p.step(mem)
-			if accesses := m.Touched() - touched; accesses != 1 && !was || accesses != 0 && was {
-				t.Errorf("%d accesses", accesses)
-			}
-			if over != o.Over() {
-				t.Errorf("Step tells %t", over)
-			}
 			wantTold(t, "an operation", o, int(p.outcome), p.value, p.ticket)
 			trial.Cells(t, m, mem...)
 			if t.Failed() {
@@ -231,29 +224,10 @@ func newStage(t *testing.T, slots int, threads [][]int) *stage {
 
 // play picks threads till all of them are through.
 func (s *stage) play(pick func(n int) int) {
-	var order []int
-	for {
-		var going []int
-		for k, ops := range s.threads {
-			if s.at[k] < len(ops) {
-				going = append(going, k)
-			}
-		}
-		if len(going) == 0 {
-			break
-		}
-		k := going[pick(len(going))]
-		order = append(order, k)
-		s.step(k)
-		s.stopIfFailed(order, len(order) > 2000)
-	}
+	goes := func(k int) bool { return s.at[k] < len(s.threads[k]) }
+	order := trial.Turns(s.t, len(s.threads), goes, s.step, pick)
 	s.empty()
-	s.stopIfFailed(order, false)
-}
-
-// stopIfFailed tells the first order that is wrong, and not those behind it too.
-func (s *stage) stopIfFailed(order []int, endless bool) {
-	if s.t.Failed() || endless {
+	if s.t.Failed() { // it tells the first order that is wrong, and not those behind it too
 		s.t.Fatalf("%d slots, threads %v, order %v", s.slots, s.threads, order)
 	}
 }

@@ -79,63 +79,16 @@ func TestExamplesOfTheChapter(t *testing.T) {
 }
 
 // P3.1
-func TestSize(t *testing.T) {
-	for slots := 1; slots <= api.MaxSlots; slots++ {
-		if got := Size(slots); got != 2+2*slots {
-			t.Errorf("Size(%d) = %d", slots, got)
-		}
-	}
-	for _, slots := range []int{0, -1, -2, math.MinInt, api.MaxSlots + 1, 1000, math.MaxInt/2 + 1, math.MaxInt} {
-		if got := Size(slots); got != 0 {
-			t.Errorf("Size(%d) = %d", slots, got)
-		}
-	}
-}
-
-// P3.1
-func TestMakeRefuses(t *testing.T) {
-	m := cells.New(200)
-	for i := range m.Len() {
-		m.Store(i, 5)
-	}
-	touched := m.Touched()
-	for _, c := range []struct {
-		m           *cells.Mem
-		base, slots int
-	}{
-		{nil, 0, 2}, {nil, -1, 0},
-		{m, 0, 0}, {m, 0, -1}, {m, 0, math.MinInt}, {m, 0, api.MaxSlots + 1}, {m, 0, math.MaxInt},
-		{m, -1, 2}, {m, -6, 2}, {m, math.MinInt, 2},
-		{m, 195, 2}, {m, 197, 1}, {m, 71, 64}, {m, 200, 1}, {m, math.MaxInt, 2}, {m, math.MaxInt - 4, 2}, {m, math.MaxInt - 5, 2},
-		{cells.New(0), 0, 1}, {cells.New(3), 0, 1}, {cells.New(129), 0, 64},
-	} {
-		if r, e := Make(c.m, c.base, c.slots); r != nil || e != api.ErrArg {
-			t.Errorf("Make(%v, %d, %d) = %v, %d", c.m != nil, c.base, c.slots, r, e)
-		}
-	}
-	if m.Touched() != touched || slices.Contains(m.All(), 0) {
-		t.Error("a Make that was refused has touched the memory")
-	}
-}
-
-// P3.1
-func TestMakeLaysOutItsCellsAlone(t *testing.T) {
-	for _, c := range []struct{ cells, base, slots int }{
-		{4, 0, 1}, {6, 0, 2}, {10, 6, 1}, {10, 4, 2}, {10, 3, 2}, {140, 10, 64}, {140, 5, 64}, {130, 0, 64},
-		{api.MaxCells, api.MaxCells - 130, 64}, {api.MaxCells, 0, 3},
-	} {
-		m := cells.New(c.cells)
-		want := make([]uint64, c.cells)
-		for i := range want {
-			m.Store(i, 5)
-			want[i] = 5
-		}
-		laid(t, m, c.base, c.slots)
-		clear(want[c.base : c.base+2+2*c.slots])
-		if !slices.Equal(m.All(), want) {
-			t.Errorf("behind Make at %d of %d slots the cells hold %v", c.base, c.slots, m.All())
-		}
-	}
+func TestSizeAndMake(t *testing.T) {
+	trial.Layout{
+		Most:  api.MaxSlots,
+		Cells: func(slots int) []uint64 { return make([]uint64, 2+2*slots) },
+		Size:  Size,
+		Make: func(m *cells.Mem, base, slots int) (bool, api.Errno) {
+			r, e := Make(m, base, slots)
+			return r != nil, e
+		},
+	}.Hold(t)
 }
 
 // P3.1, P3.2, P3.3, P3.4: the cells of a ring that doesn't begin at 0.

@@ -4,6 +4,7 @@ import (
 	"slices"
 	"testing"
 
+	"troupe/api"
 	"troupe/cells"
 )
 
@@ -13,6 +14,7 @@ type tally struct{ errors, fatals int }
 func (c *tally) Helper()               {}
 func (c *tally) Errorf(string, ...any) { c.errors++ }
 func (c *tally) Fatalf(string, ...any) { c.fatals++ }
+func (c *tally) Failed() bool          { return c.errors+c.fatals > 0 }
 
 // adder adds 1 to its cell at each step, by so many accesses a step.
 type adder struct {
@@ -32,13 +34,13 @@ func (a *adder) Step() bool {
 }
 
 func TestRunCountsSteps(t *testing.T) {
-	for _, steps := range []int{1, 2, 9, most} {
+	for _, steps := range []int{1, 2, 9, mostSteps} {
 		if n := Run(t, &adder{m: cells.New(1), left: steps, touches: 1}); n != steps {
 			t.Errorf("%d steps, want %d", n, steps)
 		}
 	}
 	var told tally
-	if n := Run(&told, &adder{m: cells.New(1), left: most + 1, touches: 1}); n != 0 || told.fatals != 1 {
+	if n := Run(&told, &adder{m: cells.New(1), left: mostSteps + 1, touches: 1}); n != 0 || told.fatals != 1 {
 		t.Errorf("of an operation that doesn't end: %d, %d fatals", n, told.fatals)
 	}
 }
@@ -55,6 +57,37 @@ func TestCellsTellsOfWrongOnes(t *testing.T) {
 	}
 }
 
+// liar tells by Step the opposite of what it is.
+type liar struct{ adder }
+
+func (l *liar) Step() bool { return !l.adder.Step() }
+
+// toucher goes on touching its cell when it is over.
+type toucher struct{ adder }
+
+func (*toucher) Over() bool { return true }
+
+func TestOneTellsWhatIsWrong(t *testing.T) {
+	m := cells.New(1)
+	right := &adder{m: m, left: 2, touches: 1}
+	if One(t, m, right) || !One(t, m, right) {
+		t.Error("One doesn't tell what Step tells")
+	}
+	for _, c := range []struct {
+		name string
+		o    Op
+	}{
+		{"two accesses", &adder{m: m, left: 2, touches: 2}},
+		{"Step isn't as Over", &liar{adder{m: m, left: 2, touches: 1}}},
+		{"an access of one that is over", &toucher{adder{m: m, left: 1, touches: 1}}},
+	} {
+		var told tally
+		if One(&told, m, c.o); told.errors != 1 {
+			t.Errorf("%s: %d errors", c.name, told.errors)
+		}
+	}
+}
+
 func TestStepsTellsWhatIsWrong(t *testing.T) {
 	for _, c := range []struct {
 		name         string
@@ -63,7 +96,7 @@ func TestStepsTellsWhatIsWrong(t *testing.T) {
 		errors       int
 	}{
 		{"right", 2, 1, [][]uint64{{1}, {2}}, 0},
-		{"over too early", 1, 1, [][]uint64{{1}, {2}}, 2},
+		{"over too early", 1, 1, [][]uint64{{1}, {2}}, 3},
 		{"over too late", 3, 1, [][]uint64{{1}, {2}}, 1},
 		{"two accesses", 2, 2, [][]uint64{{1}, {2}}, 2},
 		{"a wrong cell", 2, 1, [][]uint64{{1}, {3}}, 1},
@@ -74,6 +107,46 @@ func TestStepsTellsWhatIsWrong(t *testing.T) {
 		if told.errors != c.errors {
 			t.Errorf("%s: %d errors, want %d", c.name, told.errors, c.errors)
 		}
+	}
+}
+
+func TestTurnsGoToThoseThatStillGo(t *testing.T) {
+	for _, c := range []struct {
+		last       bool // whether the last one of those that go is picked, or the first one
+		left, want []int
+	}{
+		{false, []int{2, 0, 1}, []int{0, 0, 2}},
+		{true, []int{2, 0, 1}, []int{2, 0, 0}},
+		{true, []int{1, 2}, []int{1, 1, 0}},
+		{false, nil, nil},
+	} {
+		left := slices.Clone(c.left)
+		goes := func(k int) bool { return left[k] > 0 }
+		order := Turns(t, len(left), goes, func(k int) { left[k]-- }, func(n int) int {
+			if c.last {
+				return n - 1
+			}
+			return 0
+		})
+		if !slices.Equal(order, c.want) {
+			t.Errorf("%v: the turns %v, want %v", c.left, order, c.want)
+		}
+	}
+}
+
+func TestTurnsEndAtAFailure(t *testing.T) {
+	always, first := func(int) bool { return true }, func(int) int { return 0 }
+	var told tally
+	fails := func(int) { told.Errorf("") }
+	if order := Turns(&told, 1, always, fails, first); len(order) != 1 || told.errors != 1 {
+		t.Errorf("%d turns, %d errors", len(order), told.errors)
+	}
+	if order := Turns(&told, 1, always, fails, first); len(order) != 0 {
+		t.Errorf("%d turns of a test that had failed", len(order))
+	}
+	told = tally{}
+	if order := Turns(&told, 1, always, func(int) {}, first); len(order) != mostTurns || told.errors != 1 {
+		t.Errorf("%d turns without an end, %d errors", len(order), told.errors)
 	}
 }
 
@@ -92,5 +165,96 @@ func TestEveryOrderPlaysEachRowOnce(t *testing.T) {
 	}
 	if plays := EveryOrder(func(func(int) int) {}); plays != 1 {
 		t.Errorf("%d plays of nothing to pick", plays)
+	}
+}
+
+// pairs is a layer of two cells a part, 5 and 6, as it shall be.
+func pairs() Layout {
+	size := func(n int) int {
+		if n < 1 || n > 3 {
+			return 0
+		}
+		return 2 * n
+	}
+	return Layout{
+		Most:  3,
+		Cells: func(n int) []uint64 { return slices.Repeat([]uint64{5, 6}, n) },
+		Size:  size,
+		Make: func(m *cells.Mem, base, n int) (bool, api.Errno) {
+			if m == nil || size(n) == 0 || base < 0 || base > m.Len()-size(n) {
+				return false, api.ErrArg
+			}
+			for i := range size(n) {
+				m.Store(base+i, uint64(5+i%2))
+			}
+			return true, api.OK
+		},
+	}
+}
+
+func TestLayoutHoldsARightOne(t *testing.T) { pairs().Hold(t) }
+
+func TestLayoutTellsOfWrongSizes(t *testing.T) {
+	right := pairs().Size
+	for name, size := range map[string]func(n int) int{
+		"of none":     func(n int) int { return right(max(n, 1)) },
+		"of too many": func(n int) int { return right(min(n, 3)) },
+		"too small":   func(n int) int { return max(right(n)-1, 0) },
+		"too great":   func(n int) int { return right(n) + 1 },
+		"reckoned":    func(n int) int { return 2 * n },
+	} {
+		l := pairs()
+		l.Size = size
+		var told tally
+		if l.Hold(&told); !told.Failed() {
+			t.Errorf("a Size %s: that wasn't told", name)
+		}
+	}
+}
+
+// asked is what a Make was given, and what is right of it.
+type asked struct {
+	m       *cells.Mem
+	base, n int
+	right   bool
+}
+
+func TestLayoutTellsOfWrongMakes(t *testing.T) {
+	type answer struct {
+		made bool
+		e    api.Errno
+	}
+	yes, no := answer{true, api.OK}, answer{false, api.ErrArg}
+	for name, wrong := range map[string]func(a asked) (answer, bool){
+		"nil is taken":          func(a asked) (answer, bool) { return yes, a.m == nil && a.n > 0 },
+		"none is taken":         func(a asked) (answer, bool) { return yes, a.n == 0 },
+		"too many are taken":    func(a asked) (answer, bool) { return yes, a.n == 4 },
+		"a base below 0":        func(a asked) (answer, bool) { return yes, a.base < 0 },
+		"a base without room":   func(a asked) (answer, bool) { return yes, a.m != nil && a.base == a.m.Len()-2*a.n+1 },
+		"a greatest base":       func(a asked) (answer, bool) { return yes, a.base > api.MaxCells },
+		"the last base isn't":   func(a asked) (answer, bool) { return no, a.m != nil && a.base == a.m.Len()-2*a.n },
+		"a base above 0 isn't":  func(a asked) (answer, bool) { return no, a.base > 0 },
+		"the most aren't":       func(a asked) (answer, bool) { return no, a.n == 3 },
+		"another error":         func(a asked) (answer, bool) { return answer{false, api.ErrNone}, !a.right },
+		"made beside an error":  func(a asked) (answer, bool) { return answer{true, api.ErrArg}, !a.right },
+		"none made beside OK":   func(a asked) (answer, bool) { return answer{false, api.OK}, a.right },
+		"nothing is laid out":   func(a asked) (answer, bool) { return yes, a.right },
+		"a refused one stores":  func(a asked) (answer, bool) { return no, !a.right && a.m != nil && a.m.Store(0, 7) == api.OK },
+		"a refused one touches": func(a asked) (answer, bool) { return no, !a.right && a.m != nil && a.m.Store(0, 99) == api.OK },
+		"a cell behind changes": func(a asked) (answer, bool) { return no, a.right && a.m.Store(a.base+2*a.n, 7) == api.OK && false },
+	} {
+		l := pairs()
+		right := l.Make
+		l.Make = func(m *cells.Mem, base, n int) (bool, api.Errno) {
+			there := m != nil && l.Size(n) > 0 && base >= 0 && base <= m.Len()-l.Size(n)
+			if w, is := wrong(asked{m, base, n, there}); is {
+				return w.made, w.e
+			}
+			return right(m, base, n)
+		}
+		var told tally
+		if l.Hold(&told); !told.Failed() {
+			t.Errorf("%s: that wasn't told", name)
+		}
 	}
 }
