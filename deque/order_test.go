@@ -132,28 +132,17 @@ func near(draw *rand.Rand, mem []uint64) uint64 {
 func TestStepsAgainstPlainOnes(t *testing.T) {
 	for seed := range int64(400) {
 		draw := rand.New(rand.NewSource(seed))
-		slots, meddles := 1+draw.Intn(4), draw.Intn(3)
+		slots := 1 + draw.Intn(4)
 		m, d := fresh(t, slots)
-		mem := m.All()
-		ops, plains := make([]*Op, 4), make([]*plain, 4)
-		for i := range 500 {
-			k := draw.Intn(len(ops))
-			if ops[k] == nil || ops[k].Over() && draw.Intn(4) > 0 {
-				kind, v := draw.Intn(kinds), draw.Uint64()
-				ops[k], plains[k] = begin(d, kind, v), &plain{kind: kind, c: uint64(slots), v: v}
-			}
-			if meddles > 0 && draw.Intn(4*meddles) == 0 {
-				cell, v := draw.Intn(len(mem)), near(draw, mem)
-				m.Store(cell, v)
-				mem[cell] = v
-			}
-			trial.One(t, m, ops[k])
-			plains[k].step(mem)
-			wantTold(t, "an operation", ops[k], plains[k].outcome, plains[k].value)
-			trial.Cells(t, m, mem...)
-			if t.Failed() {
-				t.Fatalf("seed %d, step %d, %d slots, kind %d", seed, i, slots, plains[k].kind)
-			}
+		twins := func() trial.Twins {
+			kind, v := draw.Intn(kinds), draw.Uint64()
+			o, p := begin(d, kind, v), &plain{kind: kind, c: uint64(slots), v: v}
+			same := func() { wantTold(t, fmt.Sprint("an operation of kind ", kind), o, p.outcome, p.value) }
+			return trial.Twins{Op: o, Plain: p.step, Same: same}
+		}
+		trial.Mixed(t, m, draw.Intn, twins, 4*draw.Intn(3), func(held []uint64) uint64 { return near(draw, held) })
+		if t.Failed() {
+			t.Fatalf("seed %d, %d slots", seed, slots)
 		}
 	}
 }

@@ -113,29 +113,20 @@ func TestStepsAgainstPlainOnes(t *testing.T) {
 	met := map[[2]int]int{}
 	for seed := range int64(400) {
 		draw := rand.New(rand.NewSource(seed))
-		slots, meddles := 1+draw.Intn(4), draw.Intn(3)
+		slots := 1 + draw.Intn(4)
 		m, g := fresh(t, slots)
-		mem := m.All()
-		ops, plains := make([]*gate.Op, 4), make([]*plain, 4)
-		for i := range 500 {
-			k := draw.Intn(len(ops))
-			if ops[k] == nil || ops[k].Over() && draw.Intn(4) > 0 {
-				kind, v := draw.Intn(kinds), draw.Uint64()
-				ops[k], plains[k] = begin(g, kind, v), &plain{kind: kind, c: uint64(slots), v: v}
+		twins := func() trial.Twins {
+			kind, v := draw.Intn(kinds), draw.Uint64()
+			o, p := begin(g, kind, v), &plain{kind: kind, c: uint64(slots), v: v}
+			same := func() {
+				met[[2]int{kind, p.outcome}]++
+				wantTold(t, fmt.Sprint("an operation of kind ", kind), o, p.outcome, p.value)
 			}
-			if meddles > 0 && draw.Intn(4*meddles) == 0 {
-				cell, v := draw.Intn(len(mem)), odd(draw, mem)
-				m.Store(cell, v)
-				mem[cell] = v
-			}
-			trial.One(t, m, ops[k])
-			plains[k].step(mem)
-			met[[2]int{plains[k].kind, plains[k].outcome}]++
-			wantTold(t, "an operation", ops[k], plains[k].outcome, plains[k].value)
-			trial.Cells(t, m, mem...)
-			if t.Failed() {
-				t.Fatalf("seed %d, step %d, %d slots, kind %d", seed, i, slots, plains[k].kind)
-			}
+			return trial.Twins{Op: o, Plain: p.step, Same: same}
+		}
+		trial.Mixed(t, m, draw.Intn, twins, 4*draw.Intn(3), func(held []uint64) uint64 { return odd(draw, held) })
+		if t.Failed() {
+			t.Fatalf("seed %d, %d slots", seed, slots)
 		}
 	}
 	wantMet(t, met)

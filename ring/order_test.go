@@ -155,32 +155,22 @@ func odd(draw *rand.Rand, mem []uint64) uint64 {
 func TestStepsAgainstPlainOnes(t *testing.T) {
 	for seed := range int64(400) {
 		draw := rand.New(rand.NewSource(seed))
-		slots, meddles := 1+draw.Intn(4), draw.Intn(3)
+		slots := 1 + draw.Intn(4)
 		m, r := fresh(t, slots)
-		mem := make([]uint64, m.Len())
-		ops, plains := make([]*Op, 4), make([]*plain, 4)
-		for i := range 500 {
-			k := draw.Intn(4)
-			if ops[k] == nil || ops[k].Over() && draw.Intn(4) > 0 {
-				kind, v := draw.Intn(kinds), draw.Uint64()
-				if kind == closing && draw.Intn(3) > 0 {
-					kind = put
-				}
-				ops[k], plains[k] = begin(r, kind, v), &plain{kind: kind, c: uint64(slots), v: v}
+		twins := func() trial.Twins {
+			kind, v := draw.Intn(kinds), draw.Uint64()
+			if kind == closing && draw.Intn(3) > 0 {
+				kind = put
 			}
-			if meddles > 0 && draw.Intn(3*meddles) == 0 {
-				cell, v := draw.Intn(m.Len()), odd(draw, mem)
-				m.Store(cell, v)
-				mem[cell] = v
+			o, p := begin(r, kind, v), &plain{kind: kind, c: uint64(slots), v: v}
+			same := func() {
+				wantTold(t, fmt.Sprint("an operation of kind ", kind), o, int(p.outcome), p.value, p.ticket)
 			}
-			o, p := ops[k], plains[k]
-			trial.One(t, m, o)
-			p.step(mem)
-			wantTold(t, "an operation", o, int(p.outcome), p.value, p.ticket)
-			trial.Cells(t, m, mem...)
-			if t.Failed() {
-				t.Fatalf("seed %d, step %d, %d slots, kind %d", seed, i, slots, p.kind)
-			}
+			return trial.Twins{Op: o, Plain: p.step, Same: same}
+		}
+		trial.Mixed(t, m, draw.Intn, twins, 3*draw.Intn(3), func(held []uint64) uint64 { return odd(draw, held) })
+		if t.Failed() {
+			t.Fatalf("seed %d, %d slots", seed, slots)
 		}
 	}
 }

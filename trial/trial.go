@@ -24,8 +24,10 @@ type Op interface {
 }
 
 const (
-	mostSteps = 1000 // steps of an operation that nobody hinders are far fewer
-	mostTurns = 2000 // and so are the turns of all that a test lets step
+	mostSteps  = 1000 // steps of an operation that nobody hinders are far fewer
+	mostTurns  = 2000 // and so are the turns of all that a test lets step
+	mixedTurns = 500
+	mixedOps   = 4
 )
 
 // Run steps o till it is over, and counts the steps.
@@ -74,6 +76,38 @@ func Steps(t T, m *cells.Mem, o Op, behind ...[]uint64) {
 		}
 		if got := m.All(); !slices.Equal(got, want) {
 			t.Errorf("behind step %d the cells hold %v, want %v", i+1, got, want)
+		}
+	}
+}
+
+// Twins are an operation and what a chapter's words make of it, which goes on in numbers instead of cells.
+type Twins struct {
+	Op    Op
+	Plain func(held []uint64) // does the next access; nothing, if that one is over
+	Same  func()              // holds what one tells against what the other one tells
+}
+
+// Mixed steps operations in an order that is picked, and begins others when they are over; it holds them against their twins behind each step, and all cells too. At one of so many turns as meddles says, at none if it is 0, somebody lets a cell hold an odd number. It ends at the turn that fails.
+func Mixed(t T, m *cells.Mem, pick func(n int) int, begin func() Twins, meddles int, odd func(held []uint64) uint64) {
+	t.Helper()
+	held, under := m.All(), make([]Twins, mixedOps)
+	for turn := range mixedTurns {
+		now := &under[pick(len(under))]
+		if now.Op == nil || now.Op.Over() && pick(4) > 0 { // some that are over are stepped once more
+			*now = begin()
+		}
+		if meddles > 0 && pick(meddles) == 0 {
+			cell, v := pick(len(held)), odd(held)
+			m.Store(cell, v)
+			held[cell] = v
+		}
+		One(t, m, now.Op)
+		now.Plain(held)
+		now.Same()
+		Cells(t, m, held...)
+		if t.Failed() {
+			t.Errorf("that was turn %d", turn+1)
+			return
 		}
 	}
 }
@@ -157,12 +191,13 @@ func (l Layout) Hold(t T) {
 func (l Layout) within(t T, n int) {
 	t.Helper()
 	size := len(l.Cells(n))
+	room := size + 3
 	l.sized(t, n, size)
 	for _, base := range []int{0, 1, 2, 3} {
-		l.laid(t, size+3, base, n)
+		l.laid(t, room, base, n)
 	}
-	for _, base := range []int{math.MinInt, -size, -1, 4, 5, size + 2, size + 3, size + 4, math.MaxInt - size, math.MaxInt - size + 1, math.MaxInt} {
-		l.refused(t, size+3, base, n)
+	for _, base := range []int{math.MinInt, -size, -1, 4, 5, max(room-1, 4), room, room + 1, math.MaxInt - size, math.MaxInt - size + 1, math.MaxInt} {
+		l.refused(t, room, base, n)
 	}
 	l.laid(t, size, 0, n)
 	l.refused(t, size-1, 0, n)

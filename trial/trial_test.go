@@ -1,6 +1,7 @@
 package trial
 
 import (
+	"math/rand"
 	"slices"
 	"testing"
 
@@ -110,6 +111,74 @@ func TestStepsTellsWhatIsWrong(t *testing.T) {
 	}
 }
 
+// twinned makes adders and their twins, which add so much at each step; both tell how many steps are left, a twin so many too many.
+func twinned(t T, m *cells.Mem, adds uint64, many int) func() Twins {
+	return func() Twins {
+		a := &adder{m: m, left: 3, touches: 1}
+		left := a.left
+		return Twins{
+			Op: &ended{a},
+			Plain: func(held []uint64) {
+				if left > 0 {
+					held[0] += adds
+					left--
+				}
+			},
+			Same: func() {
+				if left+many != a.left {
+					t.Errorf("%d steps left, want %d", a.left, left+many)
+				}
+			},
+		}
+	}
+}
+
+// ended is an adder that does nothing once it is over.
+type ended struct{ *adder }
+
+func (e *ended) Step() bool { return e.Over() || e.adder.Step() }
+
+func TestMixedHoldsOperationsAgainstTheirTwins(t *testing.T) {
+	for _, meddles := range []int{0, 1, 3} {
+		draw := rand.New(rand.NewSource(1))
+		m := cells.New(2)
+		odds := 0
+		Mixed(t, m, draw.Intn, twinned(t, m, 1, 0), meddles, func([]uint64) uint64 { odds++; return 77 })
+		if (odds > 0) != (meddles > 0) || meddles == 1 && odds != mixedTurns {
+			t.Errorf("%d odd numbers, where one meddles at one of %d turns", odds, meddles)
+		}
+		if m.Peek(0) < 77 {
+			t.Errorf("the cell holds %d", m.Peek(0))
+		}
+	}
+}
+
+func TestMixedTellsWhatIsWrong(t *testing.T) {
+	for name, c := range map[string]struct {
+		touches int
+		adds    uint64
+		many    int
+	}{
+		"another cell":       {1, 2, 0},
+		"another thing told": {1, 1, 1},
+		"two accesses":       {2, 1, 0},
+	} {
+		var told tally
+		m := cells.New(1)
+		right := twinned(&told, m, c.adds, c.many)
+		begun := 0
+		begin := func() Twins {
+			begun++
+			w := right()
+			w.Op.(*ended).touches = c.touches
+			return w
+		}
+		if Mixed(&told, m, func(int) int { return 0 }, begin, 0, nil); told.errors != 2 || begun != 1 {
+			t.Errorf("%s: %d errors, %d operations", name, told.errors, begun)
+		}
+	}
+}
+
 func TestTurnsGoToThoseThatStillGo(t *testing.T) {
 	for _, c := range []struct {
 		last       bool // whether the last one of those that go is picked, or the first one
@@ -168,17 +237,17 @@ func TestEveryOrderPlaysEachRowOnce(t *testing.T) {
 	}
 }
 
-// pairs is a layer of two cells a part, 5 and 6, as it shall be.
-func pairs() Layout {
+// parts is a layer of so many cells a part, 5 and 6 by turns, as it shall be.
+func parts(each int) Layout {
 	size := func(n int) int {
 		if n < 1 || n > 3 {
 			return 0
 		}
-		return 2 * n
+		return each * n
 	}
 	return Layout{
 		Most:  3,
-		Cells: func(n int) []uint64 { return slices.Repeat([]uint64{5, 6}, n) },
+		Cells: func(n int) []uint64 { return slices.Repeat([]uint64{5, 6}, 3*each)[:each*n] },
 		Size:  size,
 		Make: func(m *cells.Mem, base, n int) (bool, api.Errno) {
 			if m == nil || size(n) == 0 || base < 0 || base > m.Len()-size(n) {
@@ -192,10 +261,14 @@ func pairs() Layout {
 	}
 }
 
-func TestLayoutHoldsARightOne(t *testing.T) { pairs().Hold(t) }
+func TestLayoutHoldsRightOnes(t *testing.T) {
+	for _, each := range []int{1, 2, 3} {
+		parts(each).Hold(t)
+	}
+}
 
 func TestLayoutTellsOfWrongSizes(t *testing.T) {
-	right := pairs().Size
+	right := parts(2).Size
 	for name, size := range map[string]func(n int) int{
 		"of none":     func(n int) int { return right(max(n, 1)) },
 		"of too many": func(n int) int { return right(min(n, 3)) },
@@ -203,7 +276,7 @@ func TestLayoutTellsOfWrongSizes(t *testing.T) {
 		"too great":   func(n int) int { return right(n) + 1 },
 		"reckoned":    func(n int) int { return 2 * n },
 	} {
-		l := pairs()
+		l := parts(2)
 		l.Size = size
 		var told tally
 		if l.Hold(&told); !told.Failed() {
@@ -243,7 +316,7 @@ func TestLayoutTellsOfWrongMakes(t *testing.T) {
 		"a refused one touches": func(a asked) (answer, bool) { return no, !a.right && a.m != nil && a.m.Store(0, 99) == api.OK },
 		"a cell behind changes": func(a asked) (answer, bool) { return no, a.right && a.m.Store(a.base+2*a.n, 7) == api.OK && false },
 	} {
-		l := pairs()
+		l := parts(2)
 		right := l.Make
 		l.Make = func(m *cells.Mem, base, n int) (bool, api.Errno) {
 			there := m != nil && l.Size(n) > 0 && base >= 0 && base <= m.Len()-l.Size(n)
