@@ -12,6 +12,7 @@ import (
 
 	"troupe/api"
 	"troupe/lex"
+	"troupe/trial"
 )
 
 const (
@@ -94,38 +95,24 @@ func plainly(text string) ([]api.Token, api.Errno, int) {
 	return tokens, api.OK, -1
 }
 
-// short is a text that can be told in a line.
-func short(text string) string {
-	if len(text) > 60 {
-		return strconv.Quote(text[:60]) + ".., of " + strconv.Itoa(len(text))
-	}
-	return strconv.Quote(text)
-}
-
 // wantFault holds a refusal against its number and place.
 func wantFault(t *testing.T, text string, code api.Errno, at int) {
 	t.Helper()
 	tokens, err := lex.All(text)
 	if len(tokens) != 0 {
-		t.Errorf("All(%s) = %v beside a fault", short(text), tokens)
+		t.Errorf("All(%s) = %v beside a fault", trial.Short(text), tokens)
 	}
-	var fault *lex.Fault
-	if !errors.As(err, &fault) || *fault != (lex.Fault{Code: code, At: at}) || !errors.Is(err, code) {
-		t.Errorf("All(%s): %v, want error %d at %d", short(text), err, code, at)
-	}
-	if lex.Code(err) != code || lex.At(err) != at {
-		t.Errorf("All(%s): Code %d, At %d, want %d, %d", short(text), lex.Code(err), lex.At(err), code, at)
-	}
+	trial.Fault(t, text, err, code, at)
 }
 
 func wantTokens(t *testing.T, text string, want ...api.Token) {
 	t.Helper()
 	tokens, err := lex.All(text)
 	if err != nil || !slices.Equal(tokens, want) {
-		t.Errorf("All(%s) = %v, %v, want %v", short(text), tokens, err, want)
+		t.Errorf("All(%s) = %v, %v, want %v", trial.Short(text), tokens, err, want)
 	}
 	if lex.Code(err) != api.OK || lex.At(err) != -1 {
-		t.Errorf("All(%s): Code %d, At %d, want 0, -1", short(text), lex.Code(err), lex.At(err))
+		t.Errorf("All(%s): Code %d, At %d, want 0, -1", trial.Short(text), lex.Code(err), lex.At(err))
 	}
 }
 
@@ -387,12 +374,12 @@ func wantTokensAlone(t *testing.T, text string) {
 	t.Helper()
 	tokens, err := lex.All(text)
 	if err != nil {
-		t.Errorf("All(%s): %v", short(text), err)
+		t.Errorf("All(%s): %v", trial.Short(text), err)
 	}
 	behind := 0
 	for _, token := range tokens {
 		if token.At < behind || !strings.HasPrefix(text[token.At:], token.Text) {
-			t.Errorf("All(%s): %v at %d, behind %d", short(text), token, token.At, behind)
+			t.Errorf("All(%s): %v at %d, behind %d", trial.Short(text), token, token.At, behind)
 		}
 		behind = token.At + len(token.Text)
 		alone := token
@@ -423,7 +410,7 @@ func TestName(t *testing.T) {
 	}
 	for _, s := range []string{"", " ", "_", "_a", "0", "1a", "007", "A", "aA", "Aa", "a ", " a", "a\n", "\na", "a b", "a#", "#a", "a#\n", "a;", ";", "{", "a{", "a-b", "a.b", "aé", "é", "ａ", "a\x00", "\x00", "a\xff", "\xe1", "a\x80", "`", "{", "a`", "a/", "a:", sixteen + "8", sixteen + " ", sixteen + "$", strings.Repeat("a", 17), strings.Repeat("a", 16385), strings.Repeat("a", 1<<20)} {
 		if lex.Name(s) {
-			t.Errorf("Name(%s) is true", short(s))
+			t.Errorf("Name(%s) is true", trial.Short(s))
 		}
 	}
 }
@@ -434,7 +421,7 @@ func wantNameAsRead(t *testing.T, s string) {
 	tokens, _, _ := plainly(s)
 	want := len(tokens) == 1 && tokens[0].Kind == api.TName && tokens[0].Text == s
 	if got := lex.Name(s); got != want {
-		t.Errorf("Name(%s) = %v, want %v", short(s), got, want)
+		t.Errorf("Name(%s) = %v, want %v", trial.Short(s), got, want)
 	}
 }
 
@@ -601,13 +588,13 @@ func TestFaultsAreNewMemory(t *testing.T) {
 			_, err := lex.All(text)
 			var fault *lex.Fault
 			if !errors.As(err, &fault) {
-				t.Fatalf("All(%s): %v", short(text), err)
+				t.Fatalf("All(%s): %v", trial.Short(text), err)
 			}
 			if i == 0 {
 				want = *fault
 			}
 			if *fault != want {
-				t.Errorf("All(%s): %v, want %v", short(text), *fault, want)
+				t.Errorf("All(%s): %v, want %v", trial.Short(text), *fault, want)
 			}
 			*fault = lex.Fault{Code: 99, At: 99}
 		}

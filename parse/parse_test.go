@@ -1,7 +1,6 @@
 package parse_test
 
 import (
-	"errors"
 	"math"
 	"math/rand"
 	"reflect"
@@ -13,30 +12,17 @@ import (
 	"troupe/api"
 	"troupe/lex"
 	"troupe/parse"
+	"troupe/trial"
 )
-
-// short is a text that can be told in a line.
-func short(text string) string {
-	if len(text) > 200 {
-		return strconv.Quote(text[:200]) + ".., of " + strconv.Itoa(len(text))
-	}
-	return strconv.Quote(text)
-}
 
 // wantFault holds a refusal against its number and place.
 func wantFault(t *testing.T, text string, code api.Errno, at int) {
 	t.Helper()
 	p, err := parse.Program(text)
 	if !reflect.DeepEqual(p, api.Program{}) {
-		t.Errorf("Program(%s) = %v beside a fault", short(text), p)
+		t.Errorf("Program(%s) = %v beside a fault", trial.Short(text), p)
 	}
-	var fault *lex.Fault
-	if !errors.As(err, &fault) || *fault != (lex.Fault{Code: code, At: at}) || !errors.Is(err, code) {
-		t.Errorf("Program(%s): %v, want error %d at %d", short(text), err, code, at)
-	}
-	if lex.Code(err) != code || lex.At(err) != at {
-		t.Errorf("Program(%s): Code %d, At %d, want %d, %d", short(text), lex.Code(err), lex.At(err), code, at)
-	}
+	trial.Fault(t, text, err, code, at)
 }
 
 // wantProgram holds a text's program against what it is to be.
@@ -44,7 +30,7 @@ func wantProgram(t *testing.T, text string, want api.Program) {
 	t.Helper()
 	p, err := parse.Program(text)
 	if err != nil || !same(p, want) {
-		t.Errorf("Program(%s) = %v, %v, want %v", short(text), p, err, want)
+		t.Errorf("Program(%s) = %v, %v, want %v", trial.Short(text), p, err, want)
 	}
 }
 
@@ -76,7 +62,7 @@ func wantRefused(t *testing.T, text string) {
 	if code, at := refused(text); code != api.OK {
 		wantFault(t, text, code, at)
 	} else if _, err := parse.Program(text); err != nil {
-		t.Errorf("Program(%s): %v", short(text), err)
+		t.Errorf("Program(%s): %v", trial.Short(text), err)
 	}
 }
 
@@ -101,7 +87,7 @@ func ofKind(k api.Kind) api.Program {
 func wantPrint(t *testing.T, p api.Program, want string) {
 	t.Helper()
 	if text, code := parse.Print(p); text != want || code != api.OK {
-		t.Errorf("Print = %s, %d, want %s", short(text), code, short(want))
+		t.Errorf("Print = %s, %d, want %s", trial.Short(text), code, trial.Short(want))
 	}
 	wantProgram(t, want, p)
 }
@@ -110,7 +96,7 @@ func wantPrint(t *testing.T, p api.Program, want string) {
 func wantUnwritable(t *testing.T, p api.Program, code api.Errno) {
 	t.Helper()
 	if text, got := parse.Print(p); text != "" || got != code {
-		t.Errorf("Print(%v) = %s, %d, want error %d", p, short(text), got, code)
+		t.Errorf("Print(%v) = %s, %d, want error %d", p, trial.Short(text), got, code)
 	}
 }
 
@@ -569,7 +555,7 @@ func TestPrintOfLongPrograms(t *testing.T) {
 func wantUnwritableLong(t *testing.T, p api.Program, code api.Errno) {
 	t.Helper()
 	if text, got := parse.Print(p); text != "" || got != code {
-		t.Errorf("Print = %s, %d, want error %d", short(text), got, code)
+		t.Errorf("Print = %s, %d, want error %d", trial.Short(text), got, code)
 	}
 }
 

@@ -1,4 +1,4 @@
-// Package trial is for the layers' tests: it steps operations, and plays them in all orders.
+// Package trial is for the layers' tests: it steps operations, plays them in all orders, and holds errors against their places.
 package trial
 
 import (
