@@ -441,23 +441,6 @@ func TestNameIsWhatIsReadAsOne(t *testing.T) {
 	allTexts(5, []string{"a", "0", "_", ";", " ", "#", "\n", "é"}, func(text string) { wantNameAsRead(t, text) })
 }
 
-// around is an error around another one.
-type around struct{ within error }
-
-func (a *around) Error() string { return "around: " + a.within.Error() }
-func (a *around) Unwrap() error { return a.within }
-
-// other is an error that turns itself into a fault when it is asked.
-type other struct{ fault *lex.Fault }
-
-func (o other) Error() string { return "other" }
-func (o other) As(target any) bool {
-	if f, ok := target.(**lex.Fault); ok {
-		*f = o.fault
-	}
-	return o.fault != nil
-}
-
 // P12.3
 func TestErrorOfAFault(t *testing.T) {
 	for _, c := range []struct {
@@ -498,42 +481,26 @@ func TestUnwrapOfAFault(t *testing.T) {
 	}
 }
 
+// wantCodeAndAt holds an error's number and place against what they are to be.
+func wantCodeAndAt(t *testing.T, how string, err error, code api.Errno, at int) {
+	t.Helper()
+	if gotCode, gotAt := lex.Code(err), lex.At(err); gotCode != code || gotAt != at {
+		t.Errorf("%s: Code %d, At %d, want %d, %d", how, gotCode, gotAt, code, at)
+	}
+}
+
 // P12.3: the first fault, wherever it is wrapped.
 func TestCodeAndAt(t *testing.T) {
-	sign, name := &lex.Fault{Code: api.ErrSign, At: 7}, &lex.Fault{Code: api.ErrName, At: 9}
-	var none *lex.Fault
-	var nowhere *around
-	for i, c := range []struct {
-		err  error
-		code api.Errno
-		at   int
-	}{
-		{nil, api.OK, -1},
-		{sign, api.ErrSign, 7},
-		{name, api.ErrName, 9},
-		{&lex.Fault{}, api.OK, 0},
-		{&lex.Fault{Code: api.ErrArg, At: -5}, api.ErrArg, -5},
-		{&around{sign}, api.ErrSign, 7},
-		{&around{&around{name}}, api.ErrName, 9},
-		{errors.Join(sign, name), api.ErrSign, 7},
-		{errors.Join(errors.New("x"), &around{name}, sign), api.ErrName, 9},
-		{other{sign}, api.ErrSign, 7},
-		{errors.Join(other{}, name), api.ErrName, 9},
-		{errors.New("x"), api.ErrArg, -1},
-		{errors.Join(errors.New("x"), errors.New("y")), api.ErrArg, -1},
-		{&around{errors.New("x")}, api.ErrArg, -1},
-		{&around{}, api.ErrArg, -1},
-		{other{}, api.ErrArg, -1},
-		{api.ErrSign, api.ErrArg, -1},
-		{api.OK, api.ErrArg, -1},
-		{&around{api.ErrName}, api.ErrArg, -1},
-		{none, api.ErrArg, -1},
-		{&around{none}, api.ErrArg, -1},
-		{nowhere, api.ErrArg, -1},
-		{&around{nowhere}, api.ErrArg, -1},
-	} {
-		if code, at := lex.Code(c.err), lex.At(c.err); code != c.code || at != c.at {
-			t.Errorf("error %d: Code %d, At %d, want %d, %d", i, code, at, c.code, c.at)
+	wantCodeAndAt(t, "no error", nil, api.OK, -1)
+	wantCodeAndAt(t, "a fault of nothing", &lex.Fault{}, api.OK, 0)
+	wantCodeAndAt(t, "a fault of any numbers", &lex.Fault{Code: api.ErrArg, At: -5}, api.ErrArg, -5)
+	wantCodeAndAt(t, "a number alone", api.ErrSign, api.ErrArg, -1)
+	wantCodeAndAt(t, "a number alone", api.OK, api.ErrArg, -1)
+	for _, w := range trial.Wraps(&lex.Fault{Code: api.ErrSign, At: 7}, &lex.Fault{Code: api.ErrName, At: 9}) {
+		if w.Is {
+			wantCodeAndAt(t, w.How, w.Err, w.Found.Code, w.Found.At)
+		} else {
+			wantCodeAndAt(t, w.How, w.Err, api.ErrArg, -1)
 		}
 	}
 }
