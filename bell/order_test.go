@@ -105,17 +105,7 @@ func TestStepsAgainstPlainOnes(t *testing.T) {
 			t.Fatalf("seed %d, %d workers", seed, workers)
 		}
 	}
-	wantMet(t, met, [][2]int{{sleep, api.Done}, {sleep, api.None}, {up, api.Done}, {up, api.None}, {poll, api.Done}, {poll, api.None}, {ring, api.Rouse}, {ring, api.None}})
-}
-
-// wantMet sees to it that none of these has come up too seldom to tell anything.
-func wantMet(t *testing.T, met map[[2]int]int, wanted [][2]int) {
-	t.Helper()
-	for _, k := range wanted {
-		if met[k] < 100 {
-			t.Errorf("kind %d has come to outcome %d but %d times", k[0], k[1], met[k])
-		}
-	}
+	trial.Met(t, met, [][2]int{{sleep, api.Done}, {sleep, api.None}, {up, api.Done}, {up, api.None}, {poll, api.Done}, {poll, api.None}, {ring, api.Rouse}, {ring, api.None}})
 }
 
 // act is one thing that a thread does; the thing is what it brings, looks for, or rings for.
@@ -338,5 +328,5 @@ func TestManyOrders(t *testing.T) {
 			met[k] += n
 		}
 	}
-	wantMet(t, met, [][2]int{{sleep, api.Done}, {up, api.Done}, {poll, api.Done}, {poll, api.None}, {ring, api.Rouse}, {ring, api.None}, {look, 0}, {look, 1}})
+	trial.Met(t, met, [][2]int{{sleep, api.Done}, {up, api.Done}, {poll, api.Done}, {poll, api.None}, {ring, api.Rouse}, {ring, api.None}, {look, 0}, {look, 1}})
 }

@@ -93,21 +93,6 @@ func (p *plain) take(mem []uint64, slot, r uint64) {
 	}
 }
 
-// odd draws a number that stands near to one that matters: to what the cells hold, or to an end of the numbers.
-func odd(draw *rand.Rand, mem []uint64) uint64 {
-	near := uint64(draw.Intn(5)) - 2
-	switch held := mem[draw.Intn(len(mem))]; draw.Intn(4) {
-	case 0:
-		return near
-	case 1:
-		return edge + near
-	case 2:
-		return 2*held + near
-	default:
-		return held + near
-	}
-}
-
 // P5.2 to P5.4: operations of both kinds, mixed step by step, beside somebody who now and then changes a cell, or not; all that is told and all cells are held against the plain ones.
 func TestStepsAgainstPlainOnes(t *testing.T) {
 	met := map[[2]int]int{}
@@ -124,23 +109,16 @@ func TestStepsAgainstPlainOnes(t *testing.T) {
 			}
 			return trial.Twins{Op: o, Plain: p.step, Same: same}
 		}
-		trial.Mixed(t, m, draw.Intn, twins, 4*draw.Intn(3), func(held []uint64) uint64 { return odd(draw, held) })
+		trial.Mixed(t, m, draw.Intn, twins, 4*draw.Intn(3), func(held []uint64) uint64 { return trial.Odd(draw.Intn, held) })
 		if t.Failed() {
 			t.Fatalf("seed %d, %d slots", seed, slots)
 		}
 	}
-	wantMet(t, met)
+	trial.Met(t, met, every)
 }
 
-// wantMet sees to it that no kind of operation has missed an outcome.
-func wantMet(t *testing.T, met map[[2]int]int) {
-	t.Helper()
-	for _, k := range [][2]int{{put, api.Done}, {put, api.Full}, {take, api.Done}, {take, api.None}} {
-		if met[k] < 100 {
-			t.Errorf("kind %d has come to outcome %d but %d times", k[0], k[1], met[k])
-		}
-	}
-}
+// every kind of operation with each of its outcomes.
+var every = [][2]int{{put, api.Done}, {put, api.Full}, {take, api.Done}, {take, api.None}}
 
 // thread does its operations one behind the other.
 type thread struct {
@@ -298,5 +276,5 @@ func TestManyOrders(t *testing.T) {
 			met[k] += n
 		}
 	}
-	wantMet(t, met)
+	trial.Met(t, met, every)
 }

@@ -11,117 +11,13 @@ import (
 	"troupe/trial"
 )
 
-// plain is an operation as the chapter's words have it: which access is its next one, by the chapter's numbers.
-type plain struct {
-	kind                   int // a place in kinds
-	c                      uint64
-	access                 int
-	t, h, v                uint64
-	outcome, value, ticket uint64
-}
-
 const (
-	put = iota
-	take
-	drain
-	look
-	closing
-	kinds
+	put     = trial.RingPut
+	take    = trial.RingTake
+	drain   = trial.RingDrain
+	look    = trial.RingLook
+	closing = trial.RingClose
 )
-
-func (p *plain) step(mem []uint64) {
-	if p.outcome != api.Pending {
-		return
-	}
-	p.access++
-	switch p.kind {
-	case put:
-		p.put(mem, 2+2*(p.t%p.c), p.t/p.c)
-	case take:
-		p.take(mem, p.access, 2+2*(p.h%p.c), p.h/p.c)
-	case drain:
-		p.drain(mem)
-	case look:
-		if p.take(mem, p.access, 2+2*(p.h%p.c), p.h/p.c); p.access == 2 && p.outcome == api.Pending {
-			p.outcome = api.Done
-		}
-	case closing:
-		p.close(mem)
-	}
-}
-
-func (p *plain) put(mem []uint64, slot, r uint64) {
-	switch p.access {
-	case 1:
-		if p.t = mem[0]; p.t >= edge {
-			p.outcome = api.Closed
-		}
-	case 2:
-		if s := mem[slot]; s > 2*r {
-			p.access = 0
-		} else if s < 2*r {
-			p.outcome = api.Full
-		}
-	case 3:
-		if mem[0] == p.t {
-			mem[0] = p.t + 1
-		} else {
-			p.access = 0
-		}
-	case 4:
-		mem[slot+1] = p.v
-	case 5:
-		mem[slot] = 2*r + 1
-		p.outcome, p.ticket = api.Done, p.t
-	}
-}
-
-func (p *plain) take(mem []uint64, access int, slot, r uint64) {
-	switch access {
-	case 1:
-		p.h = mem[1]
-	case 2:
-		if mem[slot] != 2*r+1 {
-			p.outcome = api.None
-		}
-	case 3:
-		p.v = mem[slot+1]
-	case 4:
-		mem[slot] = 2*r + 2
-	case 5:
-		mem[1] = p.h + 1
-		p.outcome, p.value = api.Done, p.v
-	}
-}
-
-func (p *plain) drain(mem []uint64) {
-	switch p.access {
-	case 1:
-		p.t = mem[0]
-	case 2:
-		if p.h = mem[1]; p.t == p.h+edge {
-			p.outcome = api.Ended
-		}
-	default:
-		p.take(mem, p.access-1, 2+2*(p.h%p.c), p.h/p.c)
-	}
-}
-
-func (p *plain) close(mem []uint64) {
-	switch p.access {
-	case 1:
-		if p.t = mem[0]; p.t >= edge {
-			p.outcome = api.Done
-		}
-	case 2:
-		if mem[0] == p.t {
-			mem[0] = p.t + edge
-			p.outcome = api.Done
-		} else {
-			p.access = 0
-		}
-	}
-}
 
 func begin(r *Ring, kind int, v uint64) *Op {
 	switch kind {
@@ -137,20 +33,6 @@ func begin(r *Ring, kind int, v uint64) *Op {
 	return r.Close()
 }
 
-// odd draws a number that stands near to one that matters: to what the cells hold, or to an end of the numbers.
-func odd(draw *rand.Rand, mem []uint64) uint64 {
-	near := uint64(draw.Intn(5)) - 2
-	switch draw.Intn(4) {
-	case 0:
-		return near
-	case 1:
-		return edge + near
-	case 2:
-		return 2*mem[draw.Intn(len(mem))] + near
-	}
-	return mem[draw.Intn(len(mem))] + near
-}
-
 // P3.2 to P3.5: operations of all kinds, mixed step by step, beside somebody who now and then changes a cell, or not; all that is told and all cells are held against the plain ones.
 func TestStepsAgainstPlainOnes(t *testing.T) {
 	for seed := range int64(400) {
@@ -158,17 +40,17 @@ func TestStepsAgainstPlainOnes(t *testing.T) {
 		slots := 1 + draw.Intn(4)
 		m, r := fresh(t, slots)
 		twins := func() trial.Twins {
-			kind, v := draw.Intn(kinds), draw.Uint64()
+			kind, v := draw.Intn(trial.RingKinds), draw.Uint64()
 			if kind == closing && draw.Intn(3) > 0 {
 				kind = put
 			}
-			o, p := begin(r, kind, v), &plain{kind: kind, c: uint64(slots), v: v}
+			o, p := begin(r, kind, v), &trial.RingOp{Kind: kind, Slots: uint64(slots), V: v}
 			same := func() {
-				wantTold(t, fmt.Sprint("an operation of kind ", kind), o, int(p.outcome), p.value, p.ticket)
+				wantTold(t, fmt.Sprint("an operation of kind ", kind), o, p.Outcome, p.Value, p.Ticket)
 			}
-			return trial.Twins{Op: o, Plain: p.step, Same: same}
+			return trial.Twins{Op: o, Plain: p.Step, Same: same}
 		}
-		trial.Mixed(t, m, draw.Intn, twins, 3*draw.Intn(3), func(held []uint64) uint64 { return odd(draw, held) })
+		trial.Mixed(t, m, draw.Intn, twins, 3*draw.Intn(3), func(held []uint64) uint64 { return trial.Odd(draw.Intn, held) })
 		if t.Failed() {
 			t.Fatalf("seed %d, %d slots", seed, slots)
 		}

@@ -28,6 +28,7 @@ const (
 	mostTurns  = 2000 // and so are the turns of all that a test lets step
 	mixedTurns = 500
 	mixedOps   = 4
+	seldom     = 100
 )
 
 // Run steps o till it is over, and counts the steps.
@@ -42,26 +43,27 @@ func Run(t T, o Op) int {
 	return 0
 }
 
-// Cells holds all cells against what they shall hold.
+// Cells holds all cells against what they shall hold. (It is asked so often that it calls Helper, which takes long, only where it tells something; so is One.)
 func Cells(t T, m *cells.Mem, want ...uint64) {
-	t.Helper()
 	if got := m.All(); !slices.Equal(got, want) {
+		t.Helper()
 		t.Errorf("the cells hold %v, want %v", got, want)
 	}
 }
 
 // One steps o once: that is one access, or none if it was over, and Step tells what Over tells.
 func One(t T, m *cells.Mem, o Op) bool {
-	t.Helper()
 	accesses, touched := 1, m.Touched()
 	if o.Over() {
 		accesses = 0
 	}
 	over := o.Step()
 	if m.Touched() != touched+accesses {
+		t.Helper()
 		t.Errorf("%d accesses, want %d", m.Touched()-touched, accesses)
 	}
 	if over != o.Over() {
+		t.Helper()
 		t.Errorf("Step tells %t, and Over %t", over, o.Over())
 	}
 	return over
@@ -112,7 +114,32 @@ func Mixed(t T, m *cells.Mem, pick func(n int) int, begin func() Twins, meddles 
 	}
 }
 
-// Turns lets threads step that still go, whichever is picked, till none goes, and answers whose turns these were; it ends at the turn that fails.
+// Odd picks a number that stands near to one that matters to a ring or a gate: to what the cells hold, or to an end of the numbers.
+func Odd(pick func(n int) int, held []uint64) uint64 {
+	near := uint64(pick(5)) - 2
+	switch cell := held[pick(len(held))]; pick(4) {
+	case 0:
+		return near
+	case 1:
+		return 1<<63 + near
+	case 2:
+		return 2*cell + near
+	default:
+		return cell + near
+	}
+}
+
+// Met sees to it that none of these kinds has come to its outcome too seldom to tell anything.
+func Met(t T, met map[[2]int]int, wanted [][2]int) {
+	t.Helper()
+	for _, k := range wanted {
+		if met[k] < seldom {
+			t.Errorf("kind %d has come to outcome %d but %d times", k[0], k[1], met[k])
+		}
+	}
+}
+
+// Turns lets threads step that still go, whichever is picked, till none goes, and answers whose turns these were; it ends at the turn that fails, and at a pick below 0.
 func Turns(t T, threads int, goes func(k int) bool, step func(k int), pick func(n int) int) (order []int) {
 	t.Helper()
 	for !t.Failed() {
@@ -129,35 +156,76 @@ func Turns(t T, threads int, goes func(k int) bool, step func(k int), pick func(
 			t.Errorf("threads that don't end")
 			return order
 		}
-		k := going[pick(len(going))]
-		order = append(order, k)
-		step(k)
+		at := pick(len(going))
+		if at < 0 {
+			return order
+		}
+		order = append(order, going[at])
+		step(going[at])
 	}
 	return order
 }
 
+// rows goes through all rows of picks that there can be.
+type rows struct {
+	picks, of []int
+	at        int
+}
+
+// again tells whether the next pick of this play was one of the play ahead of it, too.
+func (r *rows) again() bool { return r.at < len(r.picks) }
+
+func (r *rows) pick(n int) int {
+	if !r.again() {
+		r.picks, r.of = append(r.picks, 0), append(r.of, n)
+	}
+	r.at++
+	return r.picks[r.at-1]
+}
+
+// on goes on to the next row, and tells whether there is one.
+func (r *rows) on() bool {
+	last := len(r.picks) - 1
+	for last >= 0 && r.picks[last] == r.of[last]-1 {
+		last--
+	}
+	r.picks, r.of, r.at = r.picks[:last+1], r.of[:last+1], 0
+	if last < 0 {
+		return false
+	}
+	r.picks[last]++
+	return true
+}
+
 // EveryOrder plays once for each row of picks that there can be: pick(n) answers one of the numbers from 0 to n - 1.
 func EveryOrder(play func(pick func(n int) int)) (plays int) {
-	var picks, of []int
+	r := &rows{}
 	for {
-		at := 0
-		of = of[:0]
-		play(func(n int) int {
-			if at == len(picks) {
-				picks = append(picks, 0)
-			}
-			of = append(of, n)
-			at++
-			return picks[at-1]
-		})
+		play(r.pick)
 		plays++
-		for len(picks) > 0 && picks[len(picks)-1] == of[len(picks)-1]-1 {
-			picks = picks[:len(picks)-1]
-		}
-		if len(picks) == 0 {
+		if !r.on() {
 			return plays
 		}
-		picks[len(picks)-1]++
+	}
+}
+
+// EveryState is EveryOrder of plays that say how all stands ahead of each pick: one that comes to where another one has been is told -1, and ends there, since all that could come was played by that one.
+func EveryState(play func(pick func(n int, state func() string) int)) (states int) {
+	r, seen := &rows{}, map[string]struct{}{}
+	for {
+		play(func(n int, state func() string) int {
+			if !r.again() {
+				now := state()
+				if _, been := seen[now]; been {
+					return -1
+				}
+				seen[now] = struct{}{}
+			}
+			return r.pick(n)
+		})
+		if !r.on() {
+			return len(seen)
+		}
 	}
 }
 

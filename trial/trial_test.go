@@ -1,6 +1,8 @@
 package trial
 
 import (
+	"fmt"
+	"math"
 	"math/rand"
 	"slices"
 	"testing"
@@ -179,6 +181,33 @@ func TestMixedTellsWhatIsWrong(t *testing.T) {
 	}
 }
 
+func TestOddIsNearToWhatMatters(t *testing.T) {
+	held := []uint64{1000, 2000}
+	for _, c := range []struct {
+		picks []int
+		want  uint64
+	}{
+		{[]int{0, 0, 0}, math.MaxUint64 - 1}, {[]int{4, 1, 0}, 2}, {[]int{0, 0, 1}, 1<<63 - 2}, {[]int{3, 1, 1}, 1<<63 + 1},
+		{[]int{1, 0, 2}, 1999}, {[]int{4, 1, 2}, 4002}, {[]int{2, 0, 3}, 1000}, {[]int{0, 1, 3}, 1998},
+	} {
+		var of []int
+		got := Odd(func(n int) int { of = append(of, n); return c.picks[len(of)-1] }, held)
+		if got != c.want || !slices.Equal(of, []int{5, 2, 4}) {
+			t.Errorf("%v of %v: %d, want %d", c.picks, of, got, c.want)
+		}
+	}
+}
+
+func TestMetTellsOfWhatIsSeldom(t *testing.T) {
+	met := map[[2]int]int{{1, 2}: seldom, {2, 1}: seldom - 1, {3, 3}: 2 * seldom}
+	Met(t, met, nil)
+	Met(t, met, [][2]int{{1, 2}, {3, 3}})
+	var told tally
+	if Met(&told, met, [][2]int{{2, 1}, {1, 2}, {7, 7}}); told.errors != 2 {
+		t.Errorf("%d errors, want 2", told.errors)
+	}
+}
+
 func TestTurnsGoToThoseThatStillGo(t *testing.T) {
 	for _, c := range []struct {
 		last       bool // whether the last one of those that go is picked, or the first one
@@ -219,6 +248,18 @@ func TestTurnsEndAtAFailure(t *testing.T) {
 	}
 }
 
+func TestTurnsEndAtAPickBelowZero(t *testing.T) {
+	picks := []int{1, 0, -1}
+	order := Turns(t, 2, func(int) bool { return true }, func(int) {}, func(int) int {
+		k := picks[0]
+		picks = picks[1:]
+		return k
+	})
+	if !slices.Equal(order, []int{1, 0}) {
+		t.Errorf("the turns %v, want 1 and 0", order)
+	}
+}
+
 func TestEveryOrderPlaysEachRowOnce(t *testing.T) {
 	var rows [][]int
 	plays := EveryOrder(func(pick func(int) int) {
@@ -234,6 +275,40 @@ func TestEveryOrderPlaysEachRowOnce(t *testing.T) {
 	}
 	if plays := EveryOrder(func(func(int) int) {}); plays != 1 {
 		t.Errorf("%d plays of nothing to pick", plays)
+	}
+}
+
+func TestEveryStatePlaysOnFromEachOnce(t *testing.T) {
+	type place struct{ x, y int }
+	been, ends := map[place]int{}, map[place]int{}
+	states := EveryState(func(pick func(int, func() string) int) {
+		at := place{}
+		for at.x+at.y < 4 {
+			k := pick(2, func() string { been[at]++; return fmt.Sprint(at) })
+			switch {
+			case k < 0 && been[at] < 2:
+				t.Errorf("a play was ended at %v, where none had been", at)
+			case k < 0:
+				return
+			case k == 0:
+				at.x++
+			default:
+				at.y++
+			}
+		}
+		ends[at]++
+	})
+	if states != 10 || len(ends) != 5 {
+		t.Errorf("%d states, and the ends %v", states, ends)
+	}
+	for at, plays := range ends { // an end is come to from each of its neighbours
+		if want := min(at.x, 1) + min(at.y, 1); plays != want {
+			t.Errorf("%d plays came to %v, want %d", plays, at, want)
+		}
+	}
+	plays := 0
+	if states := EveryState(func(func(int, func() string) int) { plays++ }); states != 0 || plays != 1 {
+		t.Errorf("%d plays and %d states of nothing to pick", plays, states)
 	}
 }
 
